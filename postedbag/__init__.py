@@ -1,0 +1,1 @@
+"""Postedbag: what tasks that post tasks can come to, in any order."""

@@ -1,0 +1,1 @@
+"""Words, bags and programs: what everything else is built of."""

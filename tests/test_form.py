@@ -1,0 +1,168 @@
+"""The form of the package: where the interface stands, and rules of the language that can be read off the code."""
+
+import ast
+import builtins
+import pathlib
+import re
+import unittest
+
+ROOT = pathlib.Path(__file__).parent.parent / "postedbag"
+FILES = sorted(ROOT.rglob("*.py"))
+
+# What the interface lists, by its files: functions, and classes with their methods and properties.
+FUNCTIONS = {
+    "base/words.py": ("is_name",),
+    "base/bags.py": ("is_bag", "is_wide", "within", "added", "greatest", "least"),
+}
+CLASSES = {
+    "errors.py": {name: () for name in (
+        "BagError", "InvalidProgram", "InvalidBag", "InvalidMode", "InvalidRun", "InvalidWay", "InvalidPlace",
+        "InvalidUses", "InvalidPlan", "InvalidOperation", "InvalidCommand", "ParseError", "UnknownName",
+        "UnknownSite", "InvalidNumber", "NothingToUndo", "Refused", "TooMany",
+    )},
+    "base/programs.py": {
+        "Procedure": ("__init__", "of", "called", "points", "moves", "__eq__", "__len__", "__str__"),
+        "Program": (
+            "__init__", "of", "modes", "starts", "begin", "procedures", "names", "posts", "calls", "__getitem__",
+            "move", "with_starts", "with_begin", "with_procedure", "without", "without_posts", "renamed",
+            "__contains__", "__len__", "__eq__", "__str__",
+        ),
+    },
+}
+
+BUILTINS = set(
+    "len range enumerate zip min max sum abs sorted reversed int str bool bytes list tuple dict set isinstance ord "
+    "repr any all divmod pow map iter next property staticmethod classmethod Exception ValueError TypeError KeyError "
+    "IndexError LookupError ZeroDivisionError ArithmeticError OverflowError RuntimeError NotImplementedError "
+    "NotImplemented super".split()
+)
+DUNDERS = re.compile(
+    "__(init|eq|repr|str|len|enter|exit|call|iter|lt|le|gt|ge|ne|r?add|r?sub|r?mul|neg|bool|contains|getitem|setitem)__"
+)
+NOT_USED = set("mro elements open input law version_info with_traceback add_note register id type vars dir".split())
+LIBRARY = {"heapq", "math", "itertools", "collections"}
+FORBIDDEN = (
+    ast.Global, ast.AsyncFunctionDef, ast.AsyncFor, ast.AsyncWith, ast.Await, ast.Import, ast.Div, ast.TryStar,
+)
+
+
+def trees():
+    """The files of the package with their syntax trees."""
+    return [(path.relative_to(ROOT).as_posix(), ast.parse(path.read_text())) for path in FILES]
+
+
+def names_bound(tree):
+    """All names that a file binds: functions, classes, parameters, variables and attributes that it assigns."""
+    found = []
+    for node in ast.walk(tree):
+        if isinstance(node, (ast.FunctionDef, ast.ClassDef)):
+            found.append(node.name)
+        elif isinstance(node, ast.arg):
+            found.append(node.arg)
+        elif isinstance(node, ast.Name) and isinstance(node.ctx, ast.Store):
+            found.append(node.id)
+        elif isinstance(node, ast.ImportFrom):
+            found.extend(alias.asname or alias.name for alias in node.names)
+    return found
+
+
+class InterfaceTest(unittest.TestCase):
+    def test_functions_stand_in_their_files(self):
+        for file, names in FUNCTIONS.items():
+            body = ast.parse((ROOT / file).read_text()).body
+            defined = [node.name for node in body if isinstance(node, ast.FunctionDef)]
+            for name in names:
+                self.assertEqual(defined.count(name), 1, (file, name))
+
+    def test_classes_and_their_methods_stand_in_their_files(self):
+        for file, classes in CLASSES.items():
+            body = ast.parse((ROOT / file).read_text()).body
+            found = {node.name: node for node in body if isinstance(node, ast.ClassDef)}
+            for name, methods in classes.items():
+                defined = [node.name for node in found[name].body if isinstance(node, ast.FunctionDef)]
+                for method in methods:
+                    self.assertEqual(defined.count(method), 1, (file, name, method))
+
+
+class FilesTest(unittest.TestCase):
+    def test_the_folder_holds_only_files_of_the_package(self):
+        for path in ROOT.rglob("*"):
+            if "__pycache__" in path.parts:
+                continue
+            if path.is_dir():
+                self.assertTrue((path / "__init__.py").exists(), path)
+            else:
+                self.assertRegex(path.name, r"\A[a-z_]+\.py\Z")
+
+    def test_sizes_and_characters(self):
+        for path in FILES:
+            text = path.read_text(encoding="utf-8")
+            self.assertRegex(text, r"\A[\n -~]*\Z", path)
+            lines = text.split("\n")
+            self.assertLessEqual(len(lines), 399, path)
+            self.assertLessEqual(max(map(len, lines)), 120, path)
+
+    def test_lengths_of_functions(self):
+        for file, tree in trees():
+            for node in ast.walk(tree):
+                if isinstance(node, ast.FunctionDef):
+                    self.assertLessEqual(node.end_lineno - node.lineno + 1, 40, (file, node.name))
+
+
+class LanguageTest(unittest.TestCase):
+    def test_imports(self):
+        modules = {path.relative_to(ROOT.parent).with_suffix("").as_posix().replace("/", ".") for path in FILES}
+        for file, tree in trees():
+            for node in ast.walk(tree):
+                if isinstance(node, ast.ImportFrom):
+                    self.assertEqual(node.level, 0, file)
+                    self.assertIn(node.module, modules | LIBRARY, file)
+                    self.assertIn(node, tree.body, file)
+
+    def test_module_level(self):
+        allowed = (ast.ImportFrom, ast.FunctionDef, ast.ClassDef, ast.Assign)
+        for file, tree in trees():
+            self.assertIsNotNone(ast.get_docstring(tree), file)
+            for node in tree.body[1:]:
+                self.assertIsInstance(node, allowed, file)
+            bound = [node.targets[0].id for node in tree.body if isinstance(node, ast.Assign)]
+            self.assertEqual(len(bound), len(set(bound)), file)
+
+    def test_nothing_that_is_forbidden(self):
+        for file, tree in trees():
+            for node in ast.walk(tree):
+                self.assertNotIsInstance(node, FORBIDDEN, file)
+                if isinstance(node, ast.Constant):
+                    self.assertNotIsInstance(node.value, (float, complex), file)
+                if isinstance(node, ast.Attribute):
+                    self.assertFalse(node.attr.startswith("__") and node.attr != "__init__", (file, node.attr))
+
+    def test_builtins(self):
+        for file, tree in trees():
+            for node in ast.walk(tree):
+                if isinstance(node, ast.Name) and hasattr(builtins, node.id):
+                    self.assertIn(node.id, BUILTINS, (file, node.lineno))
+
+    def test_names(self):
+        for file, tree in trees():
+            for name in names_bound(tree):
+                if not DUNDERS.fullmatch(name):
+                    self.assertNotIn(name, NOT_USED, file)
+                    self.assertFalse(hasattr(builtins, name), (file, name))
+                    self.assertRegex(name, r"\A(_?[A-Za-z][A-Za-z0-9_]*|_)\Z", file)
+
+    def test_decorators(self):
+        for file, tree in trees():
+            for node in ast.walk(tree):
+                if isinstance(node, (ast.FunctionDef, ast.ClassDef)):
+                    for decorator in node.decorator_list:
+                        self.assertIn(ast.unparse(decorator), ("property", "staticmethod", "classmethod"), file)
+
+    def test_any_and_all_take_lists(self):
+        for file, tree in trees():
+            for node in ast.walk(tree):
+                self.assertNotIsInstance(node, ast.GeneratorExp, file)
+
+
+if __name__ == "__main__":
+    unittest.main()
