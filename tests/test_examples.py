@@ -4,9 +4,15 @@ import doctest
 import pathlib
 import unittest
 
+from postedbag.ask import covers
 from postedbag.base import bags, programs, words
+from postedbag.know import gains, uses, ways
+from postedbag.plan import plans, tops
+from postedbag.run import runs
+from postedbag.text import texts
 
 HERE = pathlib.Path(__file__).parent
+MODULES = (words, bags, programs, texts, runs, ways, uses, gains, plans, tops, covers)
 
 
 def failures_of(text, name, names):
@@ -18,10 +24,15 @@ def failures_of(text, name, names):
     return runner.tries, "".join(told)
 
 
+def names_of_all():
+    """All that the modules have, by its names."""
+    return {name: value for module in MODULES for name, value in vars(module).items()}
+
+
 class ExamplesTest(unittest.TestCase):
     def check(self, *parts):
         text = "".join([(HERE / "examples" / f"{part}.txt").read_text() for part in parts])
-        tries, told = failures_of(text, parts[-1], {**vars(words), **vars(bags), **vars(programs)})
+        tries, told = failures_of(text, parts[-1], names_of_all())
         self.assertEqual(tries, text.count(">>> "))
         self.assertEqual(told, "")
 
@@ -30,6 +41,30 @@ class ExamplesTest(unittest.TestCase):
 
     def test_programs(self):
         self.check("programs", "procedures")
+
+    def test_texts(self):
+        self.check("programs", "texts")
+
+    def test_runs(self):
+        self.check("programs", "runs")
+
+    def test_ways(self):
+        self.check("programs", "ways")
+
+    def test_uses(self):
+        self.check("programs", "uses")
+
+    def test_gains(self):
+        self.check("programs", "uses", "gains")
+
+    def test_plans(self):
+        self.check("programs", "runs", "uses", "plans")
+
+    def test_tops(self):
+        self.check("programs", "tops")
+
+    def test_covers(self):
+        self.check("programs", "uses", "covers")
 
     def test_readme(self):
         text = (HERE.parent / "README.md").read_text()

@@ -13,6 +13,16 @@ FILES = sorted(ROOT.rglob("*.py"))
 FUNCTIONS = {
     "base/words.py": ("is_name",),
     "base/bags.py": ("is_bag", "is_wide", "within", "added", "greatest", "least"),
+    "text/texts.py": ("write_program", "read_program"),
+    "run/runs.py": ("is_situation", "options"),
+    "know/ways.py": ("is_way", "is_rule", "rules_of", "behind", "posted_by", "good_ways", "is_good"),
+    "know/uses.py": (
+        "is_uses", "posts_of", "least_steps", "least_uses", "uses_for", "choices_of", "uses_of",
+    ),
+    "know/gains.py": ("gains", "is_gained", "posted_any", "ends_of"),
+    "plan/plans.py": ("is_plan", "end_of", "plan_of", "run_of", "joined_plans"),
+    "plan/tops.py": ("is_bar",),
+    "ask/covers.py": ("covers", "least_takes", "cover_paper", "is_cover_paper"),
 }
 CLASSES = {
     "errors.py": {name: () for name in (
@@ -28,8 +38,21 @@ CLASSES = {
             "__contains__", "__len__", "__eq__", "__str__",
         ),
     },
+    "run/runs.py": {
+        "Run": (
+            "__init__", "of", "program", "start", "choices", "situation", "situations", "mode", "bag", "taken",
+            "is_between", "__add__", "back", "__len__", "__eq__", "__str__",
+        ),
+    },
+    "plan/tops.py": {
+        "Tops": (
+            "__init__", "program", "rows", "modes", "covers", "above", "__contains__", "__len__", "__eq__", "__str__",
+        ),
+    },
 }
 
+# The examples give the name _ to what they have shown.
+ALL_BUILTINS = set(dir(builtins)) - {"_"}
 BUILTINS = set(
     "len range enumerate zip min max sum abs sorted reversed int str bool bytes list tuple dict set isinstance ord "
     "repr any all divmod pow map iter next property staticmethod classmethod Exception ValueError TypeError KeyError "
@@ -41,6 +64,12 @@ DUNDERS = re.compile(
 )
 NOT_USED = set("mro elements open input law version_info with_traceback add_note register id type vars dir".split())
 LIBRARY = {"heapq", "math", "itertools", "collections"}
+# The methods of builtin values that are used at all.
+METHODS = set(
+    "append count endswith extend get index isalpha isdigit items join keys pop reverse setdefault split startswith "
+    "strip update values add discard".split()
+)
+CHANGING = set("append clear extend insert pop remove reverse setdefault update add discard".split())
 FORBIDDEN = (
     ast.Global, ast.AsyncFunctionDef, ast.AsyncFor, ast.AsyncWith, ast.Await, ast.Import, ast.Div, ast.TryStar,
 )
@@ -140,7 +169,7 @@ class LanguageTest(unittest.TestCase):
     def test_builtins(self):
         for file, tree in trees():
             for node in ast.walk(tree):
-                if isinstance(node, ast.Name) and hasattr(builtins, node.id):
+                if isinstance(node, ast.Name) and node.id in ALL_BUILTINS:
                     self.assertIn(node.id, BUILTINS, (file, node.lineno))
 
     def test_names(self):
@@ -148,7 +177,7 @@ class LanguageTest(unittest.TestCase):
             for name in names_bound(tree):
                 if not DUNDERS.fullmatch(name):
                     self.assertNotIn(name, NOT_USED, file)
-                    self.assertFalse(hasattr(builtins, name), (file, name))
+                    self.assertNotIn(name, ALL_BUILTINS, file)
                     self.assertRegex(name, r"\A(_?[A-Za-z][A-Za-z0-9_]*|_)\Z", file)
 
     def test_decorators(self):
@@ -157,6 +186,82 @@ class LanguageTest(unittest.TestCase):
                 if isinstance(node, (ast.FunctionDef, ast.ClassDef)):
                     for decorator in node.decorator_list:
                         self.assertIn(ast.unparse(decorator), ("property", "staticmethod", "classmethod"), file)
+
+    def test_properties_share_no_name(self):
+        properties, methods, stored = set(), set(), set()
+        for _, tree in trees():
+            for node in [node for node in ast.walk(tree) if isinstance(node, ast.ClassDef)]:
+                for part in [part for part in node.body if isinstance(part, ast.FunctionDef)]:
+                    marks = [ast.unparse(mark) for mark in part.decorator_list]
+                    (properties if "property" in marks else methods).add(part.name)
+            stored |= {node.attr for node in ast.walk(tree)
+                       if isinstance(node, ast.Attribute) and isinstance(node.ctx, ast.Store)}
+        self.assertFalse(properties & (methods | stored | METHODS))
+        self.assertFalse((methods | stored) & METHODS)
+        self.assertFalse(methods & stored)
+
+    def test_names_of_imports_and_classes_mean_nothing_else(self):
+        for file, tree in trees():
+            taken = {alias.name for node in tree.body if isinstance(node, ast.ImportFrom) for alias in node.names}
+            taken |= {node.name for node in tree.body if isinstance(node, ast.ClassDef)}
+            for node in ast.walk(tree):
+                if isinstance(node, ast.arg):
+                    self.assertNotIn(node.arg, taken, (file, node.lineno))
+                if isinstance(node, ast.Name) and isinstance(node.ctx, ast.Store):
+                    self.assertNotIn(node.id, taken, (file, node.lineno))
+
+    def test_methods(self):
+        own = {node.name for _, tree in trees() for node in ast.walk(tree) if isinstance(node, ast.FunctionDef)}
+        for file, tree in trees():
+            for node in ast.walk(tree):
+                if isinstance(node, ast.Call) and isinstance(node.func, ast.Attribute):
+                    self.assertIn(node.func.attr, METHODS | own, (file, node.lineno))
+
+    def test_sets_are_not_stored_but_in_variables(self):
+        for file, tree in trees():
+            for node in ast.walk(tree):
+                for part in ast.iter_child_nodes(node):
+                    called = isinstance(part, ast.Call) and ast.unparse(part.func) == "set"
+                    if called or isinstance(part, (ast.Set, ast.SetComp)):
+                        self.assertIsInstance(node, (ast.Assign, ast.Call, ast.Compare), (file, part.lineno))
+                        if isinstance(node, ast.Call):
+                            self.assertIn(ast.unparse(node.func), ("sorted", "len"), (file, part.lineno))
+
+    def test_loops_do_not_change_what_they_go_over(self):
+        for file, tree in trees():
+            for loop in [node for node in ast.walk(tree) if isinstance(node, ast.For)]:
+                names = {ast.unparse(node) for node in ast.walk(loop.iter) if isinstance(node, (ast.Name, ast.Attribute))}
+                for node in [node for row in loop.body for node in ast.walk(row)]:
+                    if isinstance(node, ast.Call) and isinstance(node.func, ast.Attribute):
+                        if node.func.attr in CHANGING:
+                            self.assertNotIn(ast.unparse(node.func.value), names, (file, node.lineno))
+
+    def test_sort_and_percent_and_braces(self):
+        for file, tree in trees():
+            for node in ast.walk(tree):
+                if isinstance(node, ast.Attribute):
+                    self.assertNotEqual(node.attr, "sort", file)
+                if isinstance(node, ast.JoinedStr):
+                    inner = [part for value in node.values if isinstance(value, ast.FormattedValue)
+                             for part in ast.walk(value.value)]
+                    for part in inner:
+                        self.assertFalse(isinstance(part, ast.Constant) and isinstance(part.value, str), file)
+                if isinstance(node, ast.Constant) and isinstance(node.value, str):
+                    self.assertNotIn("%", node.value, file)
+                if isinstance(node, ast.BinOp) and isinstance(node.op, ast.Pow):
+                    self.assertIsInstance(node.right, ast.Constant, file)
+
+    def test_no_two_files_import_from_each_other(self):
+        graph = {}
+        for file, tree in trees():
+            graph["postedbag." + file[:-3].replace("/", ".")] = {
+                node.module for node in tree.body if isinstance(node, ast.ImportFrom)
+            }
+        done = set()
+        while len(done) < len(graph):
+            free = {name for name, needed in graph.items() if name not in done and not (needed & set(graph)) - done}
+            self.assertTrue(free)
+            done |= free
 
     def test_any_and_all_take_lists(self):
         for file, tree in trees():

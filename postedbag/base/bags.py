@@ -47,6 +47,17 @@ def fits(one, other):
     return all([most == ANY or 0 <= entry <= most for entry, most in zip(one, other)])
 
 
+def summed(one, other):
+    """The sum of two wide bags of one length; both are known to be right."""
+    return tuple([ANY if ANY in pair else sum(pair) for pair in zip(one, other)])
+
+
+def changed(bag, at, many):
+    """The bag with so many more, or less, of the tasks at an index; ANY stays."""
+    entry = bag[at]
+    return bag[:at] + (entry if entry == ANY else entry + many,) + bag[at + 1:]
+
+
 def within(one, other):
     """Whether the first wide bag is within the second one."""
     check_pair(one, other)
@@ -56,7 +67,7 @@ def within(one, other):
 def added(one, other):
     """The sum of two wide bags."""
     check_pair(one, other)
-    return tuple([ANY if ANY in pair else sum(pair) for pair in zip(one, other)])
+    return summed(one, other)
 
 
 def greatest(bags):

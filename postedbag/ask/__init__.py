@@ -1,0 +1,1 @@
+"""Questions about programs, and the papers that answer them."""

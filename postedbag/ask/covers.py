@@ -1,0 +1,66 @@
+"""What is covered, and the papers that show it."""
+
+from postedbag.ask.search import least_row
+from postedbag.base.bags import ANY, changed, fits
+from postedbag.base.checks import check_bag, check_mode, check_program
+from postedbag.know.builds import built
+from postedbag.know.tables import GainTable
+from postedbag.plan.climb import Climb
+from postedbag.plan.takes import end_behind
+from postedbag.plan.tops import are_standings, is_bar, is_below
+
+
+def covers(program, mode, bag):
+    """Whether a mode and a bag are covered."""
+    check_question(program, mode, bag)
+    return Climb(program, GainTable(program)).roofs[mode].covers(bag)
+
+
+def least_takes(program, mode, bag):
+    """The least number of takes of a plan that ends in the mode with at least the bag, or None."""
+    check_question(program, mode, bag)
+    table = GainTable(program)
+    roofs = Climb(program, table).roofs
+    return len(least_row(program, table, roofs, mode, bag)[1]) if roofs[mode].covers(bag) else None
+
+
+def cover_paper(program, mode, bag):
+    """A plan that ends in the mode with at least the bag, or the tops if there is none."""
+    check_question(program, mode, bag)
+    table = GainTable(program)
+    climb = Climb(program, table)
+    if not climb.roofs[mode].covers(bag):
+        return ("bar", climb.tops())
+    start, row = least_row(program, table, climb.roofs, mode, bag)
+    return ("plan", start, filled(program, table, row, bag))
+
+
+def is_cover_paper(program, mode, bag, value):
+    """Whether the value is a paper that shows that a mode and a bag are covered, or that they are not."""
+    check_question(program, mode, bag)
+    if not isinstance(value, tuple) or not value:
+        return False
+    if value[0] == "plan" and len(value) == 3:
+        end = end_behind(program, value[1:])
+        return end is not None and end[0] == mode and fits(bag, end[1])
+    if value[0] != "bar" or len(value) != 2 or not are_standings(program, value[1]):
+        return False
+    return not is_below(mode, bag, value[1]) and is_bar(program, value[1])
+
+
+def check_question(program, mode, bag):
+    """Raise the error of the first one that is no program, no mode or no bag of it."""
+    check_program(program)
+    check_mode(program, mode)
+    check_bag(program, bag)
+
+
+def filled(program, table, row, bag):
+    """The takes of a row, with uses that post what the takes behind them and a bag at the end need."""
+    takes = []
+    for way, gain in row[::-1]:
+        posts = tuple([need if more == ANY else min(need, more) for need, more in zip(bag, gain)])
+        takes.append((way[0], way[3], built(program, table, way, posts)))
+        rest = tuple([need - post for need, post in zip(bag, posts)])
+        bag = changed(rest, program.names.index(way[0]), 1)
+    return tuple(takes[::-1])

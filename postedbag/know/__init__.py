@@ -1,0 +1,1 @@
+"""Ways, their uses and their gains: all that single tasks can do."""

@@ -1,0 +1,1 @@
+"""Plans, bars and tops: what rows of tasks can come to."""

@@ -1,0 +1,146 @@
+"""Climbs: all that rows of tasks can come to, from the starts on."""
+
+from heapq import heappop, heappush
+
+from postedbag.base.bags import ANY, changed, fits, summed
+from postedbag.base.roofs import Roof, greatest_of
+from postedbag.errors import TooMany
+from postedbag.know.tables import MOST_GAINS
+from postedbag.plan.proofs import are_shown
+
+MOST_TOPS = 400
+# A climb that holds more standings at once, or comes to more, is taken for one without end.
+MOST_HELD = 8000
+MOST_STEPS = 16000
+# Behind so many steps, and then behind twice as many each time, it is looked whether there are too many tops.
+FIRST_LOOK = 500
+
+
+class Climb:
+    """The greatest standings that rows of tasks come to, with any number of rounds."""
+
+    def __init__(self, program, table):
+        self._program = program
+        self._table = table
+        self._raised = {}
+        self.roofs = [Roof() for _ in range(program.modes)]
+        # For each standing that was come to its mode, its bag, its index in the roof, and the index of the one ahead.
+        self._steps = []
+        self._done = {}
+        # The standings from which it is still to go on, in two orders; ranks of modes come first in both.
+        self._ranks = mode_ranks(program, table)
+        self._oldest = []
+        self._widest = []
+        self._look = FIRST_LOOK
+        for start in program.starts:
+            self._come(start, program.begin, None)
+        self._go_all()
+        if self._size() > MOST_TOPS:
+            raise TooMany(MOST_TOPS)
+
+    def tops(self):
+        """The ascending tuple of the tops."""
+        return tuple(sorted(self._held()))
+
+    def _held(self):
+        """The list of the standings that are held."""
+        return [(mode, bag) for mode, roof in enumerate(self.roofs) for bag in roof.held()]
+
+    def _size(self):
+        """How many standings are held."""
+        return sum([roof.size() for roof in self.roofs])
+
+    def _go_all(self):
+        """Go on from all standings, in turn from the oldest one and from one with as much ANY as possible."""
+        # The oldest ones alone would be slow where rounds come late, the others alone where a short row is hidden.
+        while self._oldest:
+            rank, at = heappop(self._oldest)
+            # No task leads back to a mode of a lesser rank: what is held there are tops.
+            tops = [roof.size() for mode, roof in enumerate(self.roofs) if self._ranks[mode] < rank]
+            if sum(tops) > MOST_TOPS:
+                raise TooMany(MOST_TOPS)
+            self._go_on(at)
+            if self._widest:
+                self._go_on(heappop(self._widest)[-1])
+
+    def _go_on(self, at):
+        """Come to all standings behind one take from a standing, once, unless it is within another one by now."""
+        if at in self._done:
+            return
+        self._done[at] = True
+        mode, bag, place, _ = self._steps[at]
+        for index, name in enumerate(self._program.names):
+            if bag[index] == 0:
+                continue
+            rest = changed(bag, index, -1)
+            for end in range(self._program.modes):
+                for gain in self._gains((name, 0, mode, end), bag):
+                    if not self.roofs[mode].holds(place):
+                        return
+                    self._come(end, summed(rest, gain), at)
+
+    def _gains(self, way, bag):
+        """The gains of a way, as far as they differ where a bag has not ANY."""
+        wide = tuple([ANY if entry == ANY else 0 for entry in bag])
+        if (way, wide) not in self._raised:
+            raised = {summed(gain, wide): True for gain in self._table.gains(way)}
+            self._raised[way, wide] = greatest_of(raised, MOST_GAINS)
+        return self._raised[way, wide]
+
+    def _come(self, mode, bag, ahead):
+        """Come to a standing behind another one, with ANY for what rounds make more and more of."""
+        roof = self.roofs[mode]
+        if roof.covers(bag):
+            return
+        lifted = self._lifted(mode, bag, ahead) if roof.has_below(bag) else bag
+        heappush(self._oldest, (self._ranks[mode], len(self._steps)))
+        heappush(self._widest, (self._ranks[mode], -lifted.count(ANY), len(self._steps)))
+        self._steps.append((mode, lifted, roof.put(lifted), ahead))
+        if self._size() > MOST_TOPS and self._is_endless():
+            raise TooMany(MOST_TOPS)
+
+    def _is_endless(self):
+        """Whether too many tops are shown, or the climb is given up."""
+        if self._size() > MOST_HELD or len(self._steps) > MOST_STEPS:
+            return True
+        if len(self._steps) < self._look:
+            return False
+        self._look = 2 * len(self._steps)
+        return are_shown(self._program, self._table, self._held(), MOST_TOPS)
+
+    def _lifted(self, mode, bag, ahead):
+        """The bag with ANY for each entry that is more than in a standing ahead that is within it."""
+        at = ahead
+        while at is not None:
+            other, less, _, before = self._steps[at]
+            raised = raised_over(less, bag) if other == mode and fits(less, bag) else bag
+            # With more in the bag, standings that were passed already can be within it.
+            at = before if raised == bag else ahead
+            bag = raised
+        return bag
+
+
+def raised_over(less, bag):
+    """The bag with ANY for each entry that is more than the one of a bag within it."""
+    return tuple([ANY if few < many else many for few, many in zip(less, bag)])
+
+
+def mode_ranks(program, table):
+    """For each mode a number: less than that of each mode to which tasks lead, but from which none lead back."""
+    modes = range(program.modes)
+    ways = [(name, 0, mode, end) for name in program.names for mode in modes for end in modes]
+    changes = [(way[2], way[3]) for way in ways if table.grammar.is_good(way)]
+    return [-len(modes_from(mode, changes)) for mode in modes]
+
+
+def modes_from(mode, changes):
+    """A dict with the modes that a mode leads to by some pairs of modes, and itself."""
+    met = {mode: True}
+    waiting = [mode]
+    while waiting:
+        here = waiting.pop()
+        for old, new in changes:
+            if old == here and new not in met:
+                met[new] = True
+                waiting.append(new)
+    return met

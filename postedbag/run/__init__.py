@@ -1,0 +1,1 @@
+"""Situations and runs."""
