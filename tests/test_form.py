@@ -251,6 +251,22 @@ class LanguageTest(unittest.TestCase):
                 if isinstance(node, ast.BinOp) and isinstance(node.op, ast.Pow):
                     self.assertIsInstance(node.right, ast.Constant, file)
 
+    def test_inner_comprehensions_have_names_of_their_own(self):
+        kinds = (ast.ListComp, ast.DictComp, ast.SetComp)
+        for file, tree in trees():
+            for function in [node for node in ast.walk(tree) if isinstance(node, ast.FunctionDef)]:
+                every = [node for node in ast.walk(function) if isinstance(node, kinds)]
+                own = {id(part) for node in every for made in node.generators for part in ast.walk(made.target)}
+                names = {node.id for node in ast.walk(function)
+                         if isinstance(node, ast.Name) and isinstance(node.ctx, ast.Store) and id(node) not in own}
+                for outer in every:
+                    taken = {part.id for made in outer.generators for part in ast.walk(made.target)
+                             if isinstance(part, ast.Name)}
+                    for inner in [node for node in ast.walk(outer) if isinstance(node, kinds) and node is not outer]:
+                        for part in [part for made in inner.generators for part in ast.walk(made.target)]:
+                            if isinstance(part, ast.Name) and part.id != "_":
+                                self.assertNotIn(part.id, names | taken, (file, inner.lineno))
+
     def test_no_two_files_import_from_each_other(self):
         graph = {}
         for file, tree in trees():

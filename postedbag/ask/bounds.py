@@ -1,7 +1,7 @@
 """Bounds: how many takes are needed at least, by weights to which no take adds more than 1."""
 
 from postedbag.base.bags import ANY
-from postedbag.plan.proofs import solved, take_rows
+from postedbag.plan.proofs import columns_of, solved, take_rows
 
 # No weight is more than this, so that there always are greatest ones.
 MOST_WEIGHT = 2000
@@ -15,14 +15,11 @@ class Weights:
     def __init__(self, program, takes, huge, known, more):
         # A task of which any number waits weighs nothing.
         free = {(mode, at): True for mode in range(program.modes) for at, wide in enumerate(known) if wide}
-        rows, changes = [
-            [{name: row[name] for name in row if name not in free} for row in some]
-            for some in take_rows(takes, huge)
-        ]
+        rows, changes = [[without(row, free) for row in some] for some in take_rows(takes, huge)]
         self._shape = (program.modes, len(program))
         self._rows = rows + changes + more
         self._limits = [1] * len(rows) + [0] * len(changes + more)
-        self.columns = [name for name in {name: True for row in self._rows for name in row} if name != "most"]
+        self.columns = [name for name in columns_of(self._rows) if name != "most"]
         self._rows.extend([{name: 1} for name in self.columns])
         self._limits.extend([MOST_WEIGHT] * len(self.columns))
         # For each kind the weights of the modes, those of the tasks in each mode, the most, and what 1 take can add.
@@ -37,6 +34,11 @@ class Weights:
         self.kinds.append((own, inner, weights.get("most", 0), whole))
         if len(self.kinds) > MOST_KINDS:
             del self.kinds[1]
+
+
+def without(row, free):
+    """A row without some names."""
+    return {name: row[name] for name in row if name not in free}
 
 
 def heavy(kind, mode, bag):

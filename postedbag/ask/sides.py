@@ -175,7 +175,6 @@ class Fore(Side):
         Side.__init__(self, question)
         # By a tuple of True for each task of which any number waits: what is left of the question then.
         self._weights = {}
-        self._raised = {}
         program = question.asked
         for start in program.starts:
             self.put(start, self._cut(program.begin), 0, None, None, 0)
@@ -212,20 +211,10 @@ class Fore(Side):
             (way[3], self._cut(summed(changed(bag, at, -1), gain)), (way, gain))
             for way, at in self._question.ways
             if way[2] == mode and bag[at] != 0
-            for gain in self._gains(way, bag)
+            for gain in self._question.table.gains_over(way, bag)
         ]
 
     def _cut(self, bag):
         """The bag with ANY for more tasks than can be needed on a row."""
         ends = self._question.end[1]
         return tuple([ANY if many >= end + MOST_TAKES else many for many, end in zip(bag, ends)])
-
-    def _gains(self, way, bag):
-        """Gains of a way, one for those that are alike where a bag has not ANY."""
-        wide = tuple([ANY if many == ANY else 0 for many in bag])
-        if (way, wide) not in self._raised:
-            alike = {}
-            for gain in self._question.table.gains(way):
-                alike.setdefault(summed(gain, wide), gain)
-            self._raised[way, wide] = [alike[gain] for gain in greatest_of(alike, len(alike))]
-        return self._raised[way, wide]

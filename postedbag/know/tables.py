@@ -22,6 +22,7 @@ class Part:
         # By each gain the way and the rule that end the rounds, the ways behind it, and their gains;
         # None for the gain that any uses with enough rounds have.
         self.origins = origins
+        self.bags = tuple(sorted(origins))
 
 
 class GainTable:
@@ -32,12 +33,24 @@ class GainTable:
         self._nothing = (0,) * len(program)
         self._parts = {}
         self._beyond = {}
+        # Many ways have the same gains: each tuple of gains has a number, and their sums are kept by these numbers.
+        self._numbers = {}
+        self._sums = {}
+        self._over = {}
 
     def gains(self, way):
         """The ascending tuple of the gains of a way; TooMany if it, or what it leads to, has too many."""
-        if not self.grammar.is_good(way):
-            return ()
-        return tuple(sorted(self.part(way).origins))
+        return self.part(way).bags if self.grammar.is_good(way) else ()
+
+    def gains_over(self, way, bag):
+        """The gains of a way that make a difference to a bag, one of those that are alike where it has not ANY."""
+        wide = tuple([ANY if entry == ANY else 0 for entry in bag])
+        if (way, wide) not in self._over:
+            alike = {}
+            for gain in self.gains(way):
+                alike.setdefault(summed(gain, wide), gain)
+            self._over[way, wide] = [alike[gain] for gain in greatest_of(alike, MOST_GAINS)]
+        return self._over[way, wide]
 
     def part(self, way):
         """The part of a good way."""
@@ -62,7 +75,7 @@ class GainTable:
         """The part of some ways, or None if it has too many gains, or leads to such a one."""
         inner = {way: True for way in ways}
         rows = [(way, rule, behind) for way in ways for rule, behind in self.grammar.rules(way)]
-        if any([own in self._beyond for way, _, behind in rows for own in (way, *behind)]):
+        if any([own in self._beyond for row in rows for own in (row[0], *row[2])]):
             return None
         reached = self._nothing
         for _, rule, behind in rows:
@@ -72,14 +85,14 @@ class GainTable:
             for at, other in enumerate(behind):
                 if other in inner:
                     pumped = summed(pumped, self._posts(rule, behind[:at] + behind[at + 1:], inner, reached))
-        ends = [row for row in rows if not any([other in inner for other in row[2]])]
+        ends = [row for row in rows if not any([own in inner for own in row[2]])]
         origins = {pumped: None} if pumped == reached else self._origins(ends, pumped)
         return None if origins is None else Part(len(self._parts), ways, reached, pumped, origins)
 
     def _posts(self, rule, behind, inner, own):
         """A wide bag with ANY for what a rule posts, or some ways behind it, of which inner ones post their own."""
         task = self.grammar.task(rule)
-        bag = self._nothing if task is None else changed(self._nothing, task, ANY)
+        bag = tuple([ANY if at == task else 0 for at in range(len(self._nothing))])
         for other in behind:
             bag = summed(bag, own if other in inner else self._parts[other].reached)
         return bag
@@ -90,21 +103,33 @@ class GainTable:
         seen = set()
         for way, rule, behind in ends:
             task = self.grammar.task(rule)
-            if (behind, task) in seen:
+            numbers = tuple([self._number(self._parts[other].bags) for other in behind])
+            if (numbers, task) in seen:
                 continue
-            seen.add((behind, task))
-            sums = {pumped if task is None else changed(pumped, task, 1): ()}
-            for other in behind:
-                sums = self._extended(sums, other, pumped)
-            for bag, gains in sums.items():
+            seen.add((numbers, task))
+            if (numbers, task, pumped) not in self._sums:
+                self._sums[numbers, task, pumped] = self._summed(behind, task, pumped)
+            for bag, gains in self._sums[numbers, task, pumped].items():
                 found.setdefault(bag, (way, rule, behind, gains))
         kept = greatest_of(found, MOST_GAINS)
         return None if kept is None else {bag: found[bag] for bag in kept}
 
+    def _number(self, bags):
+        """The number of a tuple of gains."""
+        return self._numbers.setdefault(bags, len(self._numbers))
+
+    def _summed(self, behind, task, pumped):
+        """The sums of what is pumped, of a post of a task and of a gain of each way behind it, with these gains."""
+        sums = {pumped if task is None else changed(pumped, task, 1): ()}
+        for other in behind:
+            sums = self._extended(sums, other, pumped)
+        kept = greatest_of(sums, MOST_GAINS)
+        return sums if kept is None else {bag: sums[bag] for bag in kept}
+
     def _extended(self, sums, way, pumped):
         """Each sum of a bag and a gain of a way, with the tuple of the gains that it is a sum of."""
         # Gains that differ only in what is pumped anyway make the same sums.
-        raised = {summed(gain, pumped): gain for gain in self._parts[way].origins}
+        raised = {summed(gain, pumped): gain for gain in self._parts[way].bags}
         if len(raised) > 1 and ANY in pumped:
             raised = {bag: raised[bag] for bag in greatest_of(raised, MOST_GAINS)}
         found = {}

@@ -3,9 +3,8 @@
 from heapq import heappop, heappush
 
 from postedbag.base.bags import ANY, changed, fits, summed
-from postedbag.base.roofs import Roof, greatest_of
+from postedbag.base.roofs import Roof
 from postedbag.errors import TooMany
-from postedbag.know.tables import MOST_GAINS
 from postedbag.plan.proofs import are_shown
 
 MOST_TOPS = 400
@@ -22,7 +21,6 @@ class Climb:
     def __init__(self, program, table):
         self._program = program
         self._table = table
-        self._raised = {}
         self.roofs = [Roof() for _ in range(program.modes)]
         # For each standing that was come to its mode, its bag, its index in the roof, and the index of the one ahead.
         self._steps = []
@@ -74,18 +72,10 @@ class Climb:
                 continue
             rest = changed(bag, index, -1)
             for end in range(self._program.modes):
-                for gain in self._gains((name, 0, mode, end), bag):
+                for gain in self._table.gains_over((name, 0, mode, end), bag):
                     if not self.roofs[mode].holds(place):
                         return
                     self._come(end, summed(rest, gain), at)
-
-    def _gains(self, way, bag):
-        """The gains of a way, as far as they differ where a bag has not ANY."""
-        wide = tuple([ANY if entry == ANY else 0 for entry in bag])
-        if (way, wide) not in self._raised:
-            raised = {summed(gain, wide): True for gain in self._table.gains(way)}
-            self._raised[way, wide] = greatest_of(raised, MOST_GAINS)
-        return self._raised[way, wide]
 
     def _come(self, mode, bag, ahead):
         """Come to a standing behind another one, with ANY for what rounds make more and more of."""

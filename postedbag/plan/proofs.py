@@ -69,9 +69,14 @@ def take_rows(takes, huge):
     return rows, [{(end, at): 1, (mode, at): -1} for mode, end in changes for at in range(len(takes[0][3]))]
 
 
+def columns_of(rows):
+    """The list of all names in some rows."""
+    return list({name: True for row in rows for name in row})
+
+
 def solved(rows, limits, goal):
     """The point that makes a goal greatest as a dict, and the number it is over; rows and goal are dicts, too."""
-    columns = list({name: True for row in rows for name in row})
+    columns = columns_of(rows)
     parts, whole = good_point(
         [[row.get(name, 0) for name in columns] for row in rows],
         limits,

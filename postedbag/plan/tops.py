@@ -96,12 +96,13 @@ def holds_all(program, rows, roofs):
     beyond = False
     for way in taken_ways(program, rows):
         try:
-            gains = table.gains(way)
+            table.gains(way)
         except TooMany:
             beyond = True
             continue
+        at = program.names.index(way[0])
         for mode, bag in rows:
-            if mode == way[2] and not leads_below(program, bag, way, gains, roofs):
+            if mode == way[2] and bag[at] != 0 and not leads_below(table, way, at, bag, roofs[way[3]]):
                 return False
     if beyond:
         raise TooMany(MOST_GAINS)
@@ -119,10 +120,7 @@ def taken_ways(program, rows):
     ]
 
 
-def leads_below(program, bag, way, gains, roofs):
-    """Whether each gain of the way of a task, behind a bag, is below the roofs, or no such task is in the bag."""
-    at = program.names.index(way[0])
-    if bag[at] == 0:
-        return True
+def leads_below(table, way, at, bag, roof):
+    """Whether each take of a task, which has an index, by a way out of a bag leads below a roof."""
     rest = changed(bag, at, -1)
-    return all([roofs[way[3]].covers(summed(rest, gain)) for gain in gains])
+    return all([roof.covers(summed(rest, gain)) for gain in table.gains_over(way, bag)])
