@@ -143,6 +143,28 @@ class GreatNumbersTest(unittest.TestCase):
                 self.assertIs(is_cover_paper(program, mode, bag, paper), True)
         self.assertLess(time.monotonic() - began, 60)
 
+    def test_hundreds_of_takes(self):
+        began = time.monotonic()
+        for seed, mode, bag, many in (
+            (500491, 1, (66, 65, 58), 128), (501045, 1, (84, 77, 35), 161), (1500107, 1, (11, 76, 21), 122),
+            (1500755, 0, (116, 271, 132), 258), (2500216, 1, (87, 60, 76), 161), (3500975, 1, (38, 49, 59), 195),
+        ):
+            program = onward(seed, 3, 2, 3, 12)
+            paper = cover_paper(program, mode, bag)
+            self.assertEqual(len(paper[2]), many)
+            self.assertIs(is_cover_paper(program, mode, bag, paper), True)
+        self.assertLess(time.monotonic() - began, 20)
+
+    def test_whole_numbers_of_takes(self):
+        # Two q come of each p, and a p and a q of each q: there is no half of a p.
+        double = Procedure("p", 3, ("post", 0, 1, "q", (0,)), ("post", 1, 2, "q", (0,)), ("leave", 2, (0,)))
+        more = Procedure("q", 3, ("post", 0, 1, "p", (0,)), ("post", 1, 2, "q", (0,)), ("leave", 2, (0,)))
+        program = Program(1, (0,), (1, 1), double, more)
+        for first, second in ((1, 1), (1, 2), (3, 2), (7, 10), (370, 274), (370, 275), (370, 276), (2, 981)):
+            many = first - 1 + second // 2 * 2
+            self.assertEqual(least_takes(program, 0, (first, second)), many)
+        self.assertRaises(TooMany, least_takes, program, 0, (1, 1002))
+
     def test_large_programs(self):
         for seed in range(3):
             for program in (full(seed), stairs(seed)):
