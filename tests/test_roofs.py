@@ -4,7 +4,7 @@ import random
 import unittest
 
 from postedbag.base.bags import ANY, greatest
-from postedbag.base.roofs import BLOCK, MOST_ENTRIES, Roof, greatest_of, roof_of
+from postedbag.base.roofs import BLOCK, Place, Roof, greatest_of, roof_of
 from tests.words import is_below
 
 
@@ -12,6 +12,20 @@ def bags(seed, many, most):
     """So many wide bags, with entries up to the most."""
     source = random.Random(seed)
     return [tuple(ANY if source.random() < 0.1 else source.randrange(most) for _ in range(3)) for _ in range(many)]
+
+
+class PlaceTest(unittest.TestCase):
+    def test_against_single_entries(self):
+        for seed in range(40):
+            source = random.Random(seed)
+            place, came = Place(), []
+            for at in range(30):
+                entry = source.choice((ANY, -2, -9, 0, 1, 10 ** 40, source.randrange(5 + 5 * seed)))
+                place.put(entry, 1 << at)
+                came.append(entry)
+                for least in (ANY, -9, -8, -2, 0, 1, source.randrange(5 + 5 * seed), 10 ** 40, 10 ** 40 + 1):
+                    bits = [one == ANY or (least != ANY and one >= least) for one in came]
+                    self.assertEqual(place.at_least(least), sum(1 << index for index, bit in enumerate(bits) if bit))
 
 
 class RoofTest(unittest.TestCase):
@@ -38,7 +52,6 @@ class RoofTest(unittest.TestCase):
         rows = [(at, 3 * BLOCK - at, at % 2) for at in range(3 * BLOCK)]
         self.check(rows)
         self.check(rows + [(ANY, 5, 1), (7, ANY, 1), (ANY, ANY, 0), (ANY, ANY, ANY)])
-        self.assertGreater(3 * BLOCK, 2 * MOST_ENTRIES)
 
     def test_bags_that_grow(self):
         self.check([(at, at, 0) for at in range(2 * BLOCK)])

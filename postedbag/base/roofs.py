@@ -2,9 +2,48 @@
 
 from postedbag.base.bags import ANY
 
-# So many bags come into a block, and so many entries are remembered for each place of its bags.
+# So many bags come into a block.
 BLOCK = 256
-MOST_ENTRIES = 200
+
+
+class Place:
+    """The entries that some bags have at one place, with a bit for each bag."""
+
+    def __init__(self):
+        # The entries but ANY, ascending, and for each of them the bits of all bags that have at least this entry.
+        self._entries = []
+        self._bits = []
+        # The bits of the bags that have ANY.
+        self._wide = 0
+
+    def at_least(self, least):
+        """The bits of all bags that have at least an entry."""
+        at = len(self._entries) if least == ANY else self._first(least)
+        return self._bits[at] if at < len(self._bits) else self._wide
+
+    def put(self, entry, bit):
+        """Take in the entry of one more bag."""
+        at = len(self._entries)
+        if entry == ANY:
+            self._wide |= bit
+        else:
+            at = self._first(entry)
+            if at == len(self._entries) or self._entries[at] != entry:
+                self._bits.insert(at, self.at_least(entry))
+                self._entries.insert(at, entry)
+            at += 1
+        self._bits = [bits | bit for bits in self._bits[:at]] + self._bits[at:]
+
+    def _first(self, least):
+        """The index of the first entry that is not less than another one."""
+        low, high = 0, len(self._entries)
+        while low < high:
+            between = (low + high) // 2
+            if self._entries[between] < least:
+                low = between + 1
+            else:
+                high = between
+        return low
 
 
 class Block:
@@ -14,17 +53,16 @@ class Block:
         self.bags = []
         # The bits of the bags that are held.
         self.bits = 0
-        # For each place of the bags: by an entry the bits of all bags that have at least this entry there.
-        self._known = [{} for _ in range(length)]
+        self._places = [Place() for _ in range(length)]
 
     def covers(self, bag):
         """Whether a wide bag is within one that is held."""
         bits = self.bits
-        for place, entry in enumerate(bag):
+        for place, entry in zip(self._places, bag):
             if bits == 0:
                 return False
             if entry != 0:
-                bits &= self._at_least(place, entry)
+                bits &= place.at_least(entry)
         return bits != 0
 
     def put(self, bag):
@@ -32,20 +70,15 @@ class Block:
         bit = 1 << len(self.bags)
         self.bags.append(bag)
         self.bits |= bit
-        for place, entry in enumerate(bag):
-            known = self._known[place]
-            small = {} if len(known) > MOST_ENTRIES else known
-            self._known[place] = {
-                least: bits | bit if reaches(entry, least) else bits
-                for least, bits in small.items()
-            }
+        for place, entry in zip(self._places, bag):
+            place.put(entry, bit)
 
     def below(self, bag):
         """The bits of all bags within a wide bag, also of those that are not held any more."""
         bits = (1 << len(self.bags)) - 1
-        for place, entry in enumerate(bag):
+        for place, entry in zip(self._places, bag):
             if bits and entry != ANY:
-                bits &= ~self._at_least(place, entry + 1)
+                bits &= ~place.at_least(entry + 1)
         return bits
 
     def drop(self, bits):
@@ -57,18 +90,6 @@ class Block:
             dropped &= dropped - 1
             many += 1
         return many
-
-    def _at_least(self, place, least):
-        """The bits of all bags that have at least an entry at a place."""
-        known = self._known[place]
-        if least not in known:
-            entries = [bag[place] for bag in self.bags[::-1]]
-            if least == ANY:
-                signs = ["1" if entry == ANY else "0" for entry in entries]
-            else:
-                signs = ["1" if entry >= least or entry == ANY else "0" for entry in entries]
-            known[least] = int("".join(["0", *signs]), 2)
-        return known[least]
 
 
 class Roof:
@@ -114,11 +135,6 @@ class Roof:
         self._blocks[-1].put(bag)
         self._many += 1
         return (len(self._blocks) - 1) * BLOCK + len(self._blocks[-1].bags) - 1
-
-
-def reaches(entry, least):
-    """Whether an entry of a wide bag is at least another one."""
-    return entry == ANY or (least != ANY and entry >= least)
 
 
 def roof_of(bags):
