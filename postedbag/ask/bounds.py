@@ -26,7 +26,7 @@ class Bounds:
         # waits: these are known.
         self._tasks = [at for at, wide in enumerate(known) if not wide]
         homes = [home for home in range(program.modes) if home in self._homes]
-        self._names = [*range(program.modes), *[(home, task) for home in homes for task in self._tasks]]
+        self._names = list(range(program.modes)) + [(home, task) for home in homes for task in self._tasks]
         rows = [self._take_row(take, huge) for take in takes] + self._carry_rows()
         # By duality the shares of the takes are how often they are made, and the other ones how many tasks are carried.
         limits = [int(at < len(takes)) for at in range(len(rows))]
@@ -91,9 +91,9 @@ class Bounds:
             if not others:
                 counts, whole = self._made(tableau)
                 return many, {at: share // whole for at, share in counts.items()}
-            for at, other in enumerate(others):
+            for at, (turn, other) in enumerate(others):
                 # The latest ones go first, so that the counts soon are whole.
-                put(queue, many, -2 * look - at, *other)
+                put(queue, many, -2 * look - at, turn, other)
         return (queue[0][0], None) if queue else (None, None)
 
     def _made(self, tableau):
