@@ -11,6 +11,8 @@ MOST_TOPS = 400
 # A climb that holds more standings at once, or comes to more, is taken for one without end.
 MOST_HELD = 8000
 MOST_STEPS = 16000
+# So many standings ahead are looked at for what is held already.
+MOST_AHEAD = 16
 # Behind so many steps, and then behind twice as many each time, it is looked whether there are too many tops.
 FIRST_LOOK = 500
 
@@ -80,9 +82,11 @@ class Climb:
     def _come(self, mode, bag, ahead):
         """Come to a standing behind another one, with ANY for what rounds make more and more of."""
         roof = self.roofs[mode]
-        if roof.covers(bag):
+        # What is held already, but was come to otherwise, can be more than a standing not far ahead.
+        most = MOST_AHEAD if roof.covers(bag) else len(self._steps)
+        lifted = self._lifted(mode, bag, ahead, most) if roof.has_below(bag) else bag
+        if roof.covers(lifted):
             return
-        lifted = self._lifted(mode, bag, ahead) if roof.has_below(bag) else bag
         heappush(self._oldest, (self._ranks[mode], len(self._steps)))
         heappush(self._widest, (self._ranks[mode], -lifted.count(ANY), len(self._steps)))
         self._steps.append((mode, lifted, roof.put(lifted), ahead))
@@ -98,14 +102,14 @@ class Climb:
         self._look = 2 * len(self._steps)
         return are_shown(self._program, self._table, self._held(), MOST_TOPS)
 
-    def _lifted(self, mode, bag, ahead):
-        """The bag with ANY for each entry that is more than in a standing ahead that is within it."""
-        at = ahead
-        while at is not None:
+    def _lifted(self, mode, bag, ahead, most):
+        """The bag with ANY for each entry that is more than in a standing within it of so many ones ahead at most."""
+        at, left = ahead, most
+        while at is not None and left:
             other, less, _, before = self._steps[at]
             raised = raised_over(less, bag) if other == mode and fits(less, bag) else bag
             # With more in the bag, standings that were passed already can be within it.
-            at = before if raised == bag else ahead
+            at, left = (before, left - 1) if raised == bag else (ahead, most)
             bag = raised
         return bag
 
