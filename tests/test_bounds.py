@@ -3,16 +3,18 @@
 import random
 import unittest
 
-from postedbag.ask.bounds import Bounds
-from postedbag.ask.joins import are_joined, can_be_made, homes_of, reached, stays
+from postedbag.plan.bounds import Bounds
+from postedbag.plan.joins import are_joined, can_be_made, homes_of, reached, stays
 from postedbag.base.bags import ANY
 from postedbag.base.programs import Procedure, Program
 from postedbag.know.tables import GainTable
-from postedbag.plan.possible import merged, possible_takes
+from postedbag.plan.possible import merged, possible_takes, possible_ways
+from postedbag.plan.search import Search, raised_by_rounds
 from postedbag.plan.tops import Tops
 from tests.randoms import loose, onward
 from tests.samples import DOOR, JOBS
 from tests.test_covers import GROW, random_question
+from tests.test_gains import MANY
 from tests.test_tops import gains_of_tasks, quiet
 from tests.words import is_below, takes_needed, takes_of
 
@@ -147,6 +149,50 @@ class BoundsTest(unittest.TestCase):
             first = [bounds.least(mode, bag) for mode in (0, 1) for bag in ((1, 0, 1), (0, 1, 1), (3, 3, 3))]
             again = [bounds.least(mode, bag) for mode in (0, 1) for bag in ((1, 0, 1), (0, 1, 1), (3, 3, 3))]
             self.assertEqual([least for least, _ in first], [least for least, _ in again])
+
+
+class SearchTest(unittest.TestCase):
+    def search(self, program, begins, end, most):
+        table = GainTable(program)
+        ways = [(way, program.names.index(way[0])) for way in possible_ways(program, table)]
+        return Search(program, table, ways, begins, end, most)
+
+    def test_most_and_looks(self):
+        begins, end = [(0, (1, 0, 0, 0))], (0, (0, 1, 3, 3))
+        for most in (7, 8, 1000):
+            self.assertEqual(len(self.search(GROW, begins, end, most).least_row(None)[1]), 7)
+            self.assertIsNone(self.search(GROW, begins, end, most).least_row(1))
+        self.assertIsNone(self.search(GROW, begins, end, 6).least_row(None))
+
+    def test_wide_begins(self):
+        start, row = self.search(GROW, [(0, (0, 1, ANY, 2))], (0, (0, 0, 10 ** 40, 4)), 9).least_row(None)
+        self.assertEqual((start, [way[0] for way, _ in row]), (0, ["p", "p"]))
+        self.assertIsNone(self.search(GROW, [(0, (0, 0, ANY, 2))], (0, (0, 0, 9, 3)), 99).least_row(None))
+        begins = [(0, (0, 1, 0, 0)), (0, (1, 0, 9, 9))]
+        self.assertEqual(len(self.search(GROW, begins, (0, (0, 0, 9, 9)), 99).least_row(None)[1]), 0)
+
+    def test_what_rounds_make_more_of(self):
+        table = GainTable(GROW)
+        self.assertEqual(raised_by_rounds(GROW, table, 0, (0, 1, 0, 0)), (0, 1, ANY, ANY))
+        self.assertEqual(raised_by_rounds(GROW, table, 0, (1, 0, 0, 0)), (1, 0, 0, 0))
+        self.assertEqual(raised_by_rounds(GROW, table, 0, (0, 3, 5, ANY)), (0, 3, ANY, ANY))
+        table = GainTable(DOOR)
+        self.assertEqual(raised_by_rounds(DOOR, table, 0, (1, 0, 1)), (1, 0, 1))
+        # Where some possible way has too many gains nothing is raised.
+        program = MANY.with_begin((1,) * len(MANY))
+        self.assertEqual(raised_by_rounds(program, GainTable(program), 0, program.begin), program.begin)
+
+    def test_only_what_is_covered_is_raised(self):
+        raised = 0
+        for seed in range(120):
+            program = onward(seed, modes=3) if seed % 2 else loose(seed, modes=3)
+            rows = Tops(program).rows
+            for start in program.starts:
+                bag = raised_by_rounds(program, GainTable(program), start, program.begin)
+                self.assertTrue(is_below(program.begin, bag))
+                self.assertTrue(any(mode == start and is_below(bag, wide) for mode, wide in rows))
+                raised += bag != program.begin
+        self.assertGreater(raised, 30)
 
 
 class JoinsTest(unittest.TestCase):

@@ -173,6 +173,17 @@ class TopsTest(unittest.TestCase):
         program = Program(1, (0,), (HUGE, 0, 1), plain("p", post("q")), Procedure("q", 1, LEAVE), source)
         self.assertEqual(Tops(program).rows, ((0, (ANY, ANY, ANY)),))
 
+    def test_rounds_that_are_hidden_by_many_other_rows(self):
+        for seed, procedures, modes, points, moves, begin, many in (
+            (6002741, 3, 2, 3, 12, (17, 0, 399), 2),
+            (6002547, 4, 5, 4, 8, (60, 3, 0, 60), 5),
+            (2951, 4, 5, 4, 8, (30, 60, 60, 17), 301),
+        ):
+            program = onward(seed, procedures, modes, points, moves).with_begin(begin)
+            rows = Tops(program).rows
+            self.assertEqual(len(rows), many)
+            self.assertIs(is_bar(program, rows), True)
+
 
 class OfTopsTest(unittest.TestCase):
     def test_covers(self):

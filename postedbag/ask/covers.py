@@ -1,6 +1,6 @@
 """What is covered, and the papers that show it."""
 
-from postedbag.ask.search import least_row
+from postedbag.plan.search import least_row
 from postedbag.base.bags import ANY, changed, fits
 from postedbag.base.checks import check_bag, check_mode, check_program
 from postedbag.know.builds import built

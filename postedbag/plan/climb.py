@@ -6,15 +6,17 @@ from postedbag.base.bags import ANY, changed, fits, summed
 from postedbag.base.roofs import Roof
 from postedbag.errors import TooMany
 from postedbag.plan.proofs import are_shown
+from postedbag.plan.search import raised_by_rounds
 
 MOST_TOPS = 400
-# A climb that holds more standings at once, or comes to more, is taken for one without end.
-MOST_HELD = 8000
-MOST_STEPS = 16000
+# From so many standings it is searched for rounds that lead to more.
+MOST_RAISED = 8
 # So many standings ahead are looked at for what is held already.
 MOST_AHEAD = 16
-# Behind so many steps, and then behind twice as many each time, it is looked whether there are too many tops.
+# Behind so many steps, and then behind twice as many each time, it is looked whether there are too many tops. If there
+# is still no end behind the last number of steps, the climb is taken for one without end.
 FIRST_LOOK = 500
+LAST_LOOK = 8000
 
 
 class Climb:
@@ -95,12 +97,23 @@ class Climb:
 
     def _is_endless(self):
         """Whether too many tops are shown, or the climb is given up."""
-        if self._size() > MOST_HELD or len(self._steps) > MOST_STEPS:
-            return True
-        if len(self._steps) < self._look:
+        many = len(self._steps)
+        if many < self._look:
             return False
-        self._look = 2 * len(self._steps)
-        return are_shown(self._program, self._table, self._held(), MOST_TOPS)
+        self._look = 2 * many
+        if are_shown(self._program, self._table, self._held(), MOST_TOPS):
+            return True
+        self._raise_held()
+        # Where more is come to by rounds that were not met before, the climb can end soon, though it is long.
+        return many >= LAST_LOOK and (len(self._steps) == many or many >= 2 * LAST_LOOK)
+
+    def _raise_held(self):
+        """Come to more behind some of the standings that are held, where rounds that are searched for lead to it."""
+        held = [at for at, step in enumerate(self._steps) if self.roofs[step[0]].holds(step[2])]
+        for index in range(MOST_RAISED):
+            at = held[(2 * index + 1) * len(held) // (2 * MOST_RAISED)]
+            mode, bag = self._steps[at][:2]
+            self._come(mode, raised_by_rounds(self._program, self._table, mode, bag), at)
 
     def _lifted(self, mode, bag, ahead, most):
         """The bag with ANY for each entry that is more than in a standing within it of so many ones ahead at most."""

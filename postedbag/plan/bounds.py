@@ -2,7 +2,7 @@
 
 from heapq import heappop, heappush
 
-from postedbag.ask.joins import are_joined, can_be_made, homes_of, reached, stays
+from postedbag.plan.joins import are_joined, can_be_made, homes_of, reached, stays
 from postedbag.base.bags import ANY
 from postedbag.base.linear import tableau_of
 

@@ -1,20 +1,22 @@
 """Searches for rows of as few takes as possible that lead to a mode with at least a bag."""
 
-from postedbag.ask.bounds import Bounds
-from postedbag.ask.joins import are_joined
-from postedbag.ask.queues import Queues
+from postedbag.plan.bounds import Bounds
+from postedbag.plan.joins import are_joined
+from postedbag.plan.queues import Queues
 from postedbag.base.bags import ANY, changed, fits, summed
 from postedbag.base.roofs import Roof, greatest_of
 from postedbag.errors import TooMany
-from postedbag.plan.possible import reduced, task_ways
+from postedbag.plan.possible import possible_ways, reduced, task_ways
 
 MOST_TAKES = 1000
+# So many steps are looked at in a search for rounds.
+MOST_LOOKS = 100
 
 
 class Search:
     """What can wait behind rows of at most so many takes, the most promising rows first."""
 
-    def __init__(self, program, table, ways, end, most):
+    def __init__(self, program, table, ways, begins, end, most):
         self._program = program
         self._table = table
         # The pairs of a way of a task and the index of the task.
@@ -34,13 +36,18 @@ class Search:
         self._begun = {}
         self._queues = Queues()
         self._is_stuck = False
-        for start in program.starts:
-            self._steps.append((start, self._cut(program.begin), 0, None, None))
+        for mode, bag in begins:
+            self._steps.append((mode, self._cut(bag), 0, None, None))
             self._put(len(self._steps) - 1, 0, False)
 
-    def least_row(self):
-        """The start and the list of the takes of a least row, or None if there is none."""
-        while True:
+    def least_row(self, looks):
+        """The first mode and the list of the takes of a least row, or None if there is none.
+
+        It is also None if so many steps have been looked at without an end; there is no such number if it is None.
+        """
+        many = 0
+        while many != looks:
+            many += 1
             at, least = self._queues.best(self._is_stuck)
             self._is_stuck = False
             if at is None:
@@ -49,6 +56,7 @@ class Search:
             if mode == self._end[0] and fits(self._end[1], bag):
                 return self._row(at)
             self._go_on(at, least)
+        return None
 
     def _put(self, at, least, is_straight):
         """Keep a step to go on from it later, unless a row through it has too many takes."""
@@ -161,7 +169,7 @@ class Search:
         return tuple([ANY if many >= end + self._most else many for many, end in zip(bag, self._end[1])])
 
     def _row(self, at):
-        """The start, and the list of the takes to a step as pairs of a way and a gain."""
+        """The first mode, and the list of the takes to a step as pairs of a way and a gain."""
         row = []
         while self._steps[at][3] is not None:
             mode, task, end, gain = self._steps[at][3]
@@ -192,14 +200,37 @@ def least_row(program, table, roofs, mode, bag):
     TooMany if it has too many takes.
     """
     ways = covered_ways(program, table, roofs, mode)
+    begins = [(start, program.begin) for start in program.starts]
     most = first_most(program, table, ways, (mode, bag))
     while most <= MOST_TAKES:
         # If a row can have a few takes only, fewer takes are different from one another.
-        row = Search(program, table, ways, (mode, bag), most).least_row()
+        row = Search(program, table, ways, begins, (mode, bag), most).least_row(None)
         if row is not None:
             return row
         most = MOST_TAKES if most < MOST_TAKES < 2 * most else 2 * most
     raise TooMany(MOST_TAKES)
+
+
+def raised_by_rounds(program, table, mode, bag):
+    """The wide bag with ANY for tasks of which rounds, from a mode and this bag, are found to make more and more."""
+    try:
+        ways = [(way, program.names.index(way[0])) for way in possible_ways(program, table)]
+    except TooMany:
+        return bag
+    for task, many in enumerate(bag):
+        if bag[task] != ANY:
+            needed = changed(tuple([0 if entry == ANY else entry for entry in bag]), task, 1)
+            row = Search(program, table, ways, [(mode, bag)], (mode, needed), MOST_TAKES).least_row(MOST_LOOKS)
+            behind = bag if row is None else behind_row(program, bag, row[1])
+            bag = tuple([ANY if more == ANY or more > few else few for few, more in zip(bag, behind)])
+    return bag
+
+
+def behind_row(program, bag, row):
+    """The wide bag behind the takes of a row, which are pairs of a way and a gain."""
+    for way, gain in row:
+        bag = summed(changed(bag, program.names.index(way[0]), -1), gain)
+    return bag
 
 
 def first_most(program, table, ways, end):
