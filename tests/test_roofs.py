@@ -34,7 +34,7 @@ class RoofTest(unittest.TestCase):
         for bag in rows:
             covered = any(is_below(bag, other) for other in held)
             self.assertIs(roof.covers(bag), covered)
-            self.assertIs(roof.has_below(bag), any(is_below(other, bag) for other in came))
+            self.assertEqual(roof.below(bag), sum(1 << at for at, other in enumerate(came) if is_below(other, bag)))
             if not covered:
                 held = [other for other in held if not is_below(other, bag)] + [bag]
                 self.assertEqual(roof.put(bag), len(came))

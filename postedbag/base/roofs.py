@@ -118,12 +118,12 @@ class Roof:
                 return True
         return False
 
-    def has_below(self, bag):
-        """Whether any bag that came, held or not, is within a wide bag."""
-        for block in self._blocks:
-            if block.below(bag):
-                return True
-        return False
+    def below(self, bag):
+        """A number with the bits, by their indices, of all bags that came, held or not, and are within a wide bag."""
+        bits = 0
+        for at, block in enumerate(self._blocks):
+            bits |= block.below(bag) << (at * BLOCK)
+        return bits
 
     def put(self, bag):
         """Hold a wide bag, no longer those within it, and tell its index; it is within none that is held."""

@@ -2,7 +2,7 @@
 
 from heapq import heappop, heappush
 
-from postedbag.base.bags import ANY, changed, fits, summed
+from postedbag.base.bags import ANY, changed, summed
 from postedbag.base.roofs import Roof
 from postedbag.errors import TooMany
 from postedbag.plan.proofs import are_shown
@@ -86,7 +86,7 @@ class Climb:
         roof = self.roofs[mode]
         # What is held already, but was come to otherwise, can be more than a standing not far ahead.
         most = MOST_AHEAD if roof.covers(bag) else len(self._steps)
-        lifted = self._lifted(mode, bag, ahead, most) if roof.has_below(bag) else bag
+        lifted = self._lifted(mode, bag, ahead, most)
         if roof.covers(lifted):
             return
         heappush(self._oldest, (self._ranks[mode], len(self._steps)))
@@ -117,13 +117,16 @@ class Climb:
 
     def _lifted(self, mode, bag, ahead, most):
         """The bag with ANY for each entry that is more than in a standing within it of so many ones ahead at most."""
+        below = self.roofs[mode].below(bag)
         at, left = ahead, most
-        while at is not None and left:
-            other, less, _, before = self._steps[at]
-            raised = raised_over(less, bag) if other == mode and fits(less, bag) else bag
-            # With more in the bag, standings that were passed already can be within it.
-            at, left = (before, left - 1) if raised == bag else (ahead, most)
-            bag = raised
+        while at is not None and left and below:
+            other, less, place, before = self._steps[at]
+            raised = raised_over(less, bag) if other == mode and (below >> place) & 1 else bag
+            at, left = before, left - 1
+            if raised != bag:
+                # With more in the bag, standings that were passed already can be within it.
+                bag, below = raised, self.roofs[mode].below(raised)
+                at, left = ahead, most
         return bag
 
 
