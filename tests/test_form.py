@@ -251,6 +251,16 @@ class LanguageTest(unittest.TestCase):
                 if isinstance(node, ast.BinOp) and isinstance(node.op, ast.Pow):
                     self.assertIsInstance(node.right, ast.Constant, file)
 
+    def test_reversed_takes_what_is_plainly_a_sequence(self):
+        # A class of the package has [ ], so an object of it could stand there.
+        for file, tree in trees():
+            for node in ast.walk(tree):
+                if isinstance(node, ast.Call) and ast.unparse(node.func) == "reversed":
+                    over = node.args[0]
+                    called = ast.unparse(over.func) if isinstance(over, ast.Call) else ""
+                    plain = called in ("list", "tuple", "sorted", "range")
+                    self.assertTrue(plain or isinstance(over, (ast.List, ast.Tuple, ast.Constant)), (file, node.lineno))
+
     def test_inner_comprehensions_have_names_of_their_own(self):
         kinds = (ast.ListComp, ast.DictComp, ast.SetComp)
         for file, tree in trees():

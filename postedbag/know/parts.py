@@ -11,7 +11,7 @@ def parts_from(grammar, way, known):
                 users[other].append(own)
     met = {}
     parts = []
-    for own in reversed(order):
+    for own in order[::-1]:
         if own not in met:
             parts.append(gathered(users, own, met))
     return parts[::-1]
