@@ -73,6 +73,8 @@ class Program:
         self._begin = begin
         self._procedures = procedures
         self._names = names_of(procedures)
+        # What has been worked out about the program, which never changes, for whoever asks again.
+        self.notes = {}
 
     @classmethod
     def of(cls, modes, starts, begin, procedures):

@@ -36,7 +36,7 @@ def put_gain(table, way, gain, uses):
     queue = [(-table.part(way).number, way, gain)]
     while queue:
         _, own, bag = heappop(queue)
-        origin = table.part(own).origins[bag]
+        origin = table.origin(own, bag)
         many = counts[own, bag]
         if origin is None:
             more[own] = more.get(own, 0) + many
@@ -64,10 +64,8 @@ def put_steps(table, way, last, many, uses, more):
 
 def home_of(table, way, gain, task):
     """A way that the uses of a gain of a way come to, and of which rounds post a task; the gain has ANY of it."""
-    part = table.part(way)
-    while part.pumped[task] != ANY:
-        _, _, behind, gains = part.origins[gain]
+    while not table.is_pumped(way, task):
+        _, _, behind, gains = table.origin(way, gain)
         at = [index for index, more in enumerate(gains) if more[task] == ANY][0]
         way, gain = behind[at], gains[at]
-        part = table.part(way)
     return way

@@ -3,21 +3,21 @@
 from postedbag.base.bags import ANY, fits
 from postedbag.base.checks import check_bag, check_mode, check_program
 from postedbag.errors import UnknownName
-from postedbag.know.tables import GainTable
+from postedbag.know.tables import table_of
 from postedbag.know.ways import check_way
 
 
 def gains(program, way):
     """The ascending tuple of the gains of a way."""
     check_way(program, way)
-    return GainTable(program).gains(way)
+    return table_of(program).gains(way)
 
 
 def is_gained(program, way, bag):
     """Whether some uses of a way post at least a bag."""
     check_way(program, way)
     check_bag(program, bag)
-    return any([fits(bag, gain) for gain in GainTable(program).gains(way)])
+    return any([fits(bag, gain) for gain in table_of(program).gains(way)])
 
 
 def posted_any(program, way):
@@ -32,6 +32,6 @@ def ends_of(program, name, mode):
     if name not in program:
         raise UnknownName(name)
     check_mode(program, mode)
-    table = GainTable(program)
+    table = table_of(program)
     ways = [(name, 0, mode, end) for end in range(program.modes)]
     return {way[3]: table.gains(way) for way in ways if table.grammar.is_good(way)}

@@ -8,12 +8,8 @@ from postedbag.know.rules import all_ways, behind_of, posted_of, rules_at
 class Grammar:
     """For each good way of a program its useful rules and its least uses."""
 
-    def __init__(self, program):
-        rows = [
-            (way, rule, behind_of(program, rule))
-            for way in all_ways(program)
-            for rule in rules_at(program, way)
-        ]
+    def __init__(self, program, rows):
+        # The rows have a way, a rule of it, and the ways behind the rule.
         self._program = program
         self._least = least_rows(rows)
         self._rules = {way: [] for way in self._least}
@@ -63,6 +59,15 @@ class Grammar:
                 uses[rule] = uses.get(rule, 0) + many
                 for other in ways:
                     open_ways[other] = open_ways.get(other, 0) + many
+
+
+def way_rows(program):
+    """The list of the rows of all ways of a program: the way, a rule of it, and the ways behind the rule."""
+    return [
+        (way, rule, behind_of(program, rule))
+        for way in all_ways(program)
+        for rule in rules_at(program, way)
+    ]
 
 
 def least_rows(rows):

@@ -1,46 +1,67 @@
 """Tables: the gains of the ways of a program, and how each of them comes about."""
 
-from postedbag.base.bags import ANY, changed, summed
+from postedbag.base.bags import ANY, summed
+from postedbag.base.packs import Packing
 from postedbag.base.roofs import greatest_of
 from postedbag.errors import TooMany
-from postedbag.know.grammar import Grammar
+from postedbag.know.grammar import Grammar, way_rows
 from postedbag.know.parts import parts_from
+from postedbag.know.sums import are_beyond, split, summed_all
 
 MOST_GAINS = 400
+# The finite entries of gains are at most this at first.
+FIRST_MOST = (1 << 22) - 1
 
 
 class Part:
     """Ways that lead to one another, with their gains, which are the same for all of them."""
 
-    def __init__(self, number, ways, reached, pumped, origins):
+    def __init__(self, number, ways, ends, reached, pumped):
         # What a part leads to has lesser numbers.
         self.number = number
         self.ways = ways
-        # Wide bags with ANY for what can be posted at all, and for what each round through the ways can post.
+        # The rows of the rules that end the rounds through the ways: the way, the rule, and the ways behind it.
+        self.ends = ends
+        # Codes with ANY for what can be posted at all, and for what each round through the ways can post.
         self.reached = reached
         self.pumped = pumped
-        # By each gain the way and the rule that end the rounds, the ways behind it, and their gains;
-        # None for the gain that any uses with enough rounds have.
-        self.origins = origins
-        self.bags = tuple(sorted(origins))
+        # The codes of the gains, a number that is the same for the same ones, and what their entries are at most.
+        self.codes = []
+        self.alike = 0
+        self.most = 0
+        # The gains themselves, and how each of them comes about, when they are asked for.
+        self.bags = None
+        self.origins = {}
+
+
+def table_of(program):
+    """The gains of the ways of a program, which are kept with it."""
+    if "table" not in program.notes:
+        program.notes["table"] = GainTable(program)
+    return program.notes["table"]
 
 
 class GainTable:
     """The gains of the ways of a program, worked out when they are asked for."""
 
     def __init__(self, program):
-        self.grammar = Grammar(program)
-        self._nothing = (0,) * len(program)
+        self.grammar = Grammar(program, way_rows(program))
+        self._packing = Packing(len(program), FIRST_MOST)
         self._parts = {}
         self._beyond = {}
-        # Many ways have the same gains: each tuple of gains has a number, and their sums are kept by these numbers.
+        # Many ways have the same gains, and their sums are kept by the numbers of these.
         self._numbers = {}
         self._sums = {}
         self._over = {}
 
     def gains(self, way):
         """The ascending tuple of the gains of a way; TooMany if it, or what it leads to, has too many."""
-        return self.part(way).bags if self.grammar.is_good(way) else ()
+        if not self.grammar.is_good(way):
+            return ()
+        part = self.part(way)
+        if part.bags is None:
+            part.bags = tuple(sorted([self._packing.unpacked(code) for code in part.codes]))
+        return part.bags
 
     def gains_over(self, way, bag):
         """The gains of a way that make a difference to a bag, one of those that are alike where it has not ANY."""
@@ -60,80 +81,131 @@ class GainTable:
             self._settle(way)
         return self._parts[way]
 
+    def is_pumped(self, way, task):
+        """Whether rounds from a good way back to itself can post a task."""
+        return self.part(way).pumped & self._packing.endless(task) != 0
+
+    def origin(self, way, gain):
+        """How a gain of a way comes about: what ends the rounds, as its way, its rule, the ways behind it and a gain of
+        each of these; None for the gain that any uses with enough rounds have."""
+        part = self.part(way)
+        if gain not in part.origins:
+            part.origins[gain] = None if part.pumped == part.reached else self._found(part, self._packing.packed(gain))
+        return part.origins[gain]
+
     def _settle(self, way):
         """Work out the parts of a good way and of all that it leads to."""
         for ways in parts_from(self.grammar, way, self._parts):
-            part = self._worked_out(ways)
-            if part is None:
+            part = self._part_of(ways)
+            if part is None or not self._has_gains(part):
                 for own in [way, *ways]:
                     self._beyond[own] = True
                 raise TooMany(MOST_GAINS)
             for own in ways:
                 self._parts[own] = part
 
-    def _worked_out(self, ways):
-        """The part of some ways, or None if it has too many gains, or leads to such a one."""
+    def _part_of(self, ways):
+        """The part of some ways, without its gains, or None if it leads to one that has too many."""
         inner = {way: True for way in ways}
         rows = [(way, rule, behind) for way in ways for rule, behind in self.grammar.rules(way)]
-        if any([own in self._beyond for row in rows for own in (row[0], *row[2])]):
+        if self._beyond and any([own in self._beyond for row in rows for own in (row[0], *row[2])]):
             return None
-        reached = self._nothing
+        reached = 0
         for _, rule, behind in rows:
-            reached = summed(reached, self._posts(rule, behind, inner, self._nothing))
-        pumped = self._nothing
+            reached |= self._posts(rule, behind, inner, 0)
+        pumped = 0
         for _, rule, behind in rows:
             for at, other in enumerate(behind):
                 if other in inner:
-                    pumped = summed(pumped, self._posts(rule, behind[:at] + behind[at + 1:], inner, reached))
+                    pumped |= self._posts(rule, behind[:at] + behind[at + 1:], inner, reached)
         ends = [row for row in rows if not any([own in inner for own in row[2]])]
-        origins = {pumped: None} if pumped == reached else self._origins(ends, pumped)
-        return None if origins is None else Part(len(self._parts), ways, reached, pumped, origins)
+        return Part(len(self._parts), ways, ends, reached, pumped)
 
     def _posts(self, rule, behind, inner, own):
-        """A wide bag with ANY for what a rule posts, or some ways behind it, of which inner ones post their own."""
+        """A code with ANY for what a rule posts, or some ways behind it, of which inner ones post their own."""
         task = self.grammar.task(rule)
-        bag = tuple([ANY if at == task else 0 for at in range(len(self._nothing))])
+        code = 0 if task is None else self._packing.endless(task)
         for other in behind:
-            bag = summed(bag, own if other in inner else self._parts[other].reached)
-        return bag
+            code |= own if other in inner else self._parts[other].reached
+        return code
 
-    def _origins(self, ends, pumped):
-        """By each gain of a part how it comes about from the rules that end its rounds; None if there are too many."""
-        found = {}
-        seen = set()
-        for way, rule, behind in ends:
-            task = self.grammar.task(rule)
-            numbers = tuple([self._number(self._parts[other].bags) for other in behind])
-            if (numbers, task) in seen:
-                continue
-            seen.add((numbers, task))
-            if (numbers, task, pumped) not in self._sums:
-                self._sums[numbers, task, pumped] = self._summed(behind, task, pumped)
-            for bag, gains in self._sums[numbers, task, pumped].items():
-                found.setdefault(bag, (way, rule, behind, gains))
-        kept = greatest_of(found, MOST_GAINS)
-        return None if kept is None else {bag: found[bag] for bag in kept}
+    def _has_gains(self, part):
+        """Put the gains into a part, and tell whether they are not too many."""
+        if part.pumped == part.reached:
+            part.codes = [part.pumped]
+        else:
+            codes = self._sum_of(part)
+            if codes is None:
+                return False
+            part.codes = [code | part.pumped for code in codes]
+        part.alike = self._number(part.codes)
+        return True
 
-    def _number(self, bags):
-        """The number of a tuple of gains."""
-        return self._numbers.setdefault(bags, len(self._numbers))
+    def _number(self, codes):
+        """A number for some gains, the same one for the same gains."""
+        return self._numbers.setdefault(tuple(sorted(codes)), len(self._numbers))
 
-    def _summed(self, behind, task, pumped):
-        """The sums of what is pumped, of a post of a task and of a gain of each way behind it, with these gains."""
-        sums = {pumped if task is None else changed(pumped, task, 1): ()}
-        for other in behind:
-            sums = self._extended(sums, other, pumped)
-        kept = greatest_of(sums, MOST_GAINS)
-        return sums if kept is None else {bag: sums[bag] for bag in kept}
+    def _sum_of(self, part):
+        """The list of the codes of the gains of a part but for what is pumped, or None if there are too many."""
+        rows = self._rows_of(part)
+        if part.most > self._packing.most:
+            self._widen(part)
+            rows = self._rows_of(part)
+        key = (part.pumped, *rows)
+        if key not in self._sums:
+            keep = self._kept_of(part)
+            sums = [(own & keep, [self._cut(other, keep) for other in parts]) for own, parts in rows.values()]
+            is_seen = are_beyond(self._packing, sums, MOST_GAINS)
+            found = [] if is_seen else summed_all(self._packing, sums)
+            self._sums[key] = None if is_seen else self._packing.highest(found, MOST_GAINS)
+        return self._sums[key]
 
-    def _extended(self, sums, way, pumped):
-        """Each sum of a bag and a gain of a way, with the tuple of the gains that it is a sum of."""
-        # Gains that differ only in what is pumped anyway make the same sums.
-        raised = {summed(gain, pumped): gain for gain in self._parts[way].bags}
-        if len(raised) > 1 and ANY in pumped:
-            raised = {bag: raised[bag] for bag in greatest_of(raised, MOST_GAINS)}
-        found = {}
-        for bag, gains in sums.items():
-            for more, gain in raised.items():
-                found.setdefault(summed(bag, more), gains + (gain,))
-        return found
+    def _rows_of(self, part):
+        """A dict with the sums that make the gains of a part: pairs of the code of a post, or 0, and a list of parts.
+
+        Those that are alike are there once. The part is told what its entries are at most.
+        """
+        rows = {}
+        for _, rule, behind in part.ends:
+            own = self._posted(rule)
+            parts = [self._parts[way] for way in behind]
+            part.most = max([part.most, 1 + sum([other.most for other in parts])])
+            rows[(own, *[other.alike for other in parts])] = (own, parts)
+        return rows
+
+    def _posted(self, rule):
+        """The code of the bag that a rule itself posts."""
+        task = self.grammar.task(rule)
+        return 0 if task is None else self._packing.one(task)
+
+    def _kept_of(self, part):
+        """All bits of those entries of which rounds through the ways of a part post none."""
+        return self._packing.every ^ self._packing.full(part.pumped)
+
+    def _cut(self, part, keep):
+        """The codes of the gains of a part, without those entries that are not kept."""
+        if part.reached & ~keep == 0:
+            return part.codes
+        return self._packing.highest([code & keep for code in part.codes], MOST_GAINS)
+
+    def _widen(self, part):
+        """Take more bits for each entry, for a part that is being worked out needs them."""
+        old = self._packing
+        self._packing = Packing(old.length, part.most * part.most)
+        self._sums, self._numbers = {}, {}
+        parts = {other.number: other for other in self._parts.values()}
+        for other in [*parts.values(), part]:
+            other.codes = [self._packing.packed(old.unpacked(code)) for code in other.codes]
+            other.reached = self._packing.packed(old.unpacked(other.reached))
+            other.pumped = self._packing.packed(old.unpacked(other.pumped))
+            other.alike = self._number(other.codes)
+
+    def _found(self, part, wanted):
+        """What a gain of a part, of which this is the code, is a sum of."""
+        keep = self._kept_of(part)
+        for way, rule, behind in part.ends:
+            lists = [self._parts[other].codes for other in behind]
+            codes = split(self._packing, self._posted(rule) & keep, lists, keep, wanted & keep)
+            if codes is not None:
+                return (way, rule, behind, tuple([self._packing.unpacked(code) for code in codes]))
+        return None

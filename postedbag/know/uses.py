@@ -4,9 +4,9 @@ from postedbag.base.checks import check_bag, check_program
 from postedbag.errors import InvalidRun, InvalidUses, TooMany
 from postedbag.know.builds import built
 from postedbag.know.counts import are_counts, are_right, bag_of
-from postedbag.know.grammar import Grammar, in_order
+from postedbag.know.grammar import in_order
 from postedbag.know.orders import choices_with, uses_with
-from postedbag.know.tables import GainTable
+from postedbag.know.tables import table_of
 from postedbag.know.ways import check_way
 
 MOST_CHOICES = 1000
@@ -29,14 +29,14 @@ def posts_of(program, uses):
 def least_steps(program, way):
     """The least sum of the numbers of uses of a way, or None."""
     check_way(program, way)
-    grammar = Grammar(program)
+    grammar = table_of(program).grammar
     return grammar.steps(way) if grammar.is_good(way) else None
 
 
 def least_uses(program, way):
     """Uses of a way with the least sum, or None."""
     check_way(program, way)
-    grammar = Grammar(program)
+    grammar = table_of(program).grammar
     if not grammar.is_good(way):
         return None
     uses = {}
@@ -48,7 +48,7 @@ def uses_for(program, way, bag):
     """Uses of a way that post at least a bag, or None."""
     check_way(program, way)
     check_bag(program, bag)
-    return built(program, GainTable(program), way, bag)
+    return built(program, table_of(program), way, bag)
 
 
 def choices_of(program, way, uses):

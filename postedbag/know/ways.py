@@ -2,8 +2,8 @@
 
 from postedbag.base.checks import check_program
 from postedbag.errors import InvalidOperation, InvalidWay
-from postedbag.know.grammar import Grammar
 from postedbag.know.rules import behind_of, has_rule, has_way, posted_of, rules_at
+from postedbag.know.tables import table_of
 
 
 def is_way(program, value):
@@ -51,10 +51,10 @@ def posted_by(program, rule):
 def good_ways(program):
     """The ascending tuple of all good ways."""
     check_program(program)
-    return tuple(sorted(Grammar(program).good()))
+    return tuple(sorted(table_of(program).grammar.good()))
 
 
 def is_good(program, way):
     """Whether a way is good."""
     check_way(program, way)
-    return Grammar(program).is_good(way)
+    return table_of(program).grammar.is_good(way)
