@@ -9,7 +9,7 @@ from postedbag.base.bags import ANY
 from postedbag.base.programs import Procedure, Program
 from postedbag.know.tables import GainTable
 from postedbag.plan.possible import merged, possible_takes, possible_ways
-from postedbag.plan.search import Search, raised_by_rounds
+from postedbag.plan.search import Search, length_of, raised_by_rounds
 from postedbag.plan.tops import Tops
 from tests.randoms import loose, onward
 from tests.samples import DOOR, JOBS
@@ -160,13 +160,13 @@ class SearchTest(unittest.TestCase):
     def test_most_and_looks(self):
         begins, end = [(0, (1, 0, 0, 0))], (0, (0, 1, 3, 3))
         for most in (7, 8, 1000):
-            self.assertEqual(len(self.search(GROW, begins, end, most).least_row(None)[1]), 7)
+            self.assertEqual(length_of(self.search(GROW, begins, end, most).least_row(None)[1]), 7)
             self.assertIsNone(self.search(GROW, begins, end, most).least_row(1))
         self.assertIsNone(self.search(GROW, begins, end, 6).least_row(None))
 
     def test_wide_begins(self):
         start, row = self.search(GROW, [(0, (0, 1, ANY, 2))], (0, (0, 0, 10 ** 40, 4)), 9).least_row(None)
-        self.assertEqual((start, [way[0] for way, _ in row]), (0, ["p", "p"]))
+        self.assertEqual((start, [(way[0], many) for way, _, many in row]), (0, [("p", 2)]))
         self.assertIsNone(self.search(GROW, [(0, (0, 0, ANY, 2))], (0, (0, 0, 9, 3)), 99).least_row(None))
         begins = [(0, (0, 1, 0, 0)), (0, (1, 0, 9, 9))]
         self.assertEqual(len(self.search(GROW, begins, (0, (0, 0, 9, 9)), 99).least_row(None)[1]), 0)

@@ -1,11 +1,11 @@
 """What is covered, and the papers that show it."""
 
-from postedbag.plan.search import least_row
+from postedbag.plan.search import least_row, length_of
 from postedbag.base.bags import ANY, changed, fits
 from postedbag.base.checks import check_bag, check_mode, check_program
 from postedbag.know.builds import built
-from postedbag.know.tables import GainTable
-from postedbag.plan.climb import Climb
+from postedbag.know.tables import table_of
+from postedbag.plan.covered import covered_of
 from postedbag.plan.takes import end_behind
 from postedbag.plan.tops import are_standings, is_bar, is_below
 
@@ -13,25 +13,26 @@ from postedbag.plan.tops import are_standings, is_bar, is_below
 def covers(program, mode, bag):
     """Whether a mode and a bag are covered."""
     check_question(program, mode, bag)
-    return Climb(program, GainTable(program)).roofs[mode].covers(bag)
+    return covered_of(program).covers(mode, bag)
 
 
 def least_takes(program, mode, bag):
     """The least number of takes of a plan that ends in the mode with at least the bag, or None."""
     check_question(program, mode, bag)
-    table = GainTable(program)
-    roofs = Climb(program, table).roofs
-    return len(least_row(program, table, roofs, mode, bag)[1]) if roofs[mode].covers(bag) else None
+    covered = covered_of(program)
+    if not covered.covers(mode, bag):
+        return None
+    return length_of(least_row(program, table_of(program), covered, mode, bag)[1])
 
 
 def cover_paper(program, mode, bag):
     """A plan that ends in the mode with at least the bag, or the tops if there is none."""
     check_question(program, mode, bag)
-    table = GainTable(program)
-    climb = Climb(program, table)
-    if not climb.roofs[mode].covers(bag):
-        return ("bar", climb.tops())
-    start, row = least_row(program, table, climb.roofs, mode, bag)
+    covered = covered_of(program)
+    if not covered.covers(mode, bag):
+        return ("bar", covered.summits)
+    table = table_of(program)
+    start, row = least_row(program, table, covered, mode, bag)
     return ("plan", start, filled(program, table, row, bag))
 
 
@@ -58,9 +59,14 @@ def check_question(program, mode, bag):
 def filled(program, table, row, bag):
     """The takes of a row, with uses that post what the takes behind them and a bag at the end need."""
     takes = []
-    for way, gain in row[::-1]:
-        posts = tuple([need if more == ANY else min(need, more) for need, more in zip(bag, gain)])
-        takes.append((way[0], way[3], built(program, table, way, posts)))
-        rest = tuple([need - post for need, post in zip(bag, posts)])
-        bag = changed(rest, program.names.index(way[0]), 1)
+    known = {}
+    for way, gain, many in row[::-1]:
+        for _ in range(many):
+            posts = tuple([need if more == ANY else min(need, more) for need, more in zip(bag, gain)])
+            if (way, posts) not in known:
+                known[way, posts] = built(program, table, way, posts)
+            uses = known[way, posts]
+            takes.append((way[0], way[3], {rule: uses[rule] for rule in uses}))
+            rest = tuple([need - post for need, post in zip(bag, posts)])
+            bag = changed(rest, program.names.index(way[0]), 1)
     return tuple(takes[::-1])

@@ -2,11 +2,13 @@
 
 from heapq import heappop, heappush
 
-from postedbag.base.bags import ANY, changed, summed
-from postedbag.base.roofs import Roof
+from postedbag.base.bags import ANY
+from postedbag.base.ceilings import Ceiling
+from postedbag.base.packs import Packing
 from postedbag.errors import TooMany
-from postedbag.plan.proofs import are_shown
+from postedbag.plan.proofs import are_flat, are_shown
 from postedbag.plan.search import raised_by_rounds
+from postedbag.plan.steps import Steps
 
 MOST_TOPS = 400
 # From so many standings it is searched for rounds that lead to more.
@@ -17,28 +19,40 @@ MOST_AHEAD = 16
 # is still no end behind the last number of steps, the climb is taken for one without end.
 FIRST_LOOK = 500
 LAST_LOOK = 8000
+# A step is a number with its index in the lowest bits: the queues are in the order of these numbers.
+INDEX_BITS = 40
+# No finite entry grows by rounds, so it is less than this many times what the begin and the gains have.
+GROWTH_BITS = 15
 
 
 class Climb:
     """The greatest standings that rows of tasks come to, with any number of rounds."""
 
-    def __init__(self, program, table):
+    def __init__(self, program, table, most):
         self._program = program
         self._table = table
-        self.roofs = [Roof() for _ in range(program.modes)]
-        # For each standing that was come to its mode, its bag, its index in the roof, and the index of the one ahead.
+        self.packing = Packing(len(program), max([most, *program.begin]) << GROWTH_BITS)
+        self._moves = Steps(program, table, self.packing, most)
+        self.ceilings = [Ceiling(self.packing) for _ in range(program.modes)]
+        # For each standing that was come to its mode, its code, the least weight of it and of those ahead, and the
+        # index of the one ahead.
         self._steps = []
         self._done = {}
         # The standings from which it is still to go on, in two orders; ranks of modes come first in both.
-        self._ranks = mode_ranks(program, table)
+        ranks = mode_ranks(program, table)
+        self._ranks = [rank - min(ranks) for rank in ranks]
         self._oldest = []
         self._widest = []
-        self._look = FIRST_LOOK
+        self._look = MOST_TOPS
         for start in program.starts:
-            self._come(start, program.begin, None)
+            self._come(start, self.packing.packed(program.begin), None)
         self._go_all()
         if self._size() > MOST_TOPS:
             raise TooMany(MOST_TOPS)
+
+    def shortage(self):
+        """What the gains must be allowed to have so that the climb is right, if it is more than they are; else 0."""
+        return self._moves.needed
 
     def tops(self):
         """The ascending tuple of the tops."""
@@ -46,61 +60,77 @@ class Climb:
 
     def _held(self):
         """The list of the standings that are held."""
-        return [(mode, bag) for mode, roof in enumerate(self.roofs) for bag in roof.held()]
+        rows = [(mode, code) for mode, ceiling in enumerate(self.ceilings) for code in ceiling.codes]
+        return [(mode, self.packing.unpacked(code)) for mode, code in rows]
 
     def _size(self):
         """How many standings are held."""
-        return sum([roof.size() for roof in self.roofs])
+        return sum([len(ceiling.codes) for ceiling in self.ceilings])
 
     def _go_all(self):
         """Go on from all standings, in turn from the oldest one and from one with as much ANY as possible."""
+        last = 0
         # The oldest ones alone would be slow where rounds come late, the others alone where a short row is hidden.
-        while self._oldest:
-            rank, at = heappop(self._oldest)
-            # No task leads back to a mode of a lesser rank: what is held there are tops.
-            tops = [roof.size() for mode, roof in enumerate(self.roofs) if self._ranks[mode] < rank]
-            if sum(tops) > MOST_TOPS:
-                raise TooMany(MOST_TOPS)
-            self._go_on(at)
+        while self._oldest and self._moves.needed == 0:
+            step = heappop(self._oldest)
+            rank = step >> INDEX_BITS
+            if rank > last:
+                # No task leads back to a mode of a lesser rank: what is held there are tops.
+                tops = [len(held.codes) for mode, held in enumerate(self.ceilings) if self._ranks[mode] < rank]
+                if sum(tops) > MOST_TOPS:
+                    raise TooMany(MOST_TOPS)
+                last = rank
+            self._go_on(step & ((1 << INDEX_BITS) - 1))
             if self._widest:
-                self._go_on(heappop(self._widest)[-1])
+                self._go_on(heappop(self._widest) & ((1 << INDEX_BITS) - 1))
 
     def _go_on(self, at):
         """Come to all standings behind one take from a standing, once, unless it is within another one by now."""
         if at in self._done:
             return
         self._done[at] = True
-        mode, bag, place, _ = self._steps[at]
-        for index, name in enumerate(self._program.names):
-            if bag[index] == 0:
-                continue
-            rest = changed(bag, index, -1)
-            for end in range(self._program.modes):
-                for gain in self._table.gains_over((name, 0, mode, end), bag):
-                    if not self.roofs[mode].holds(place):
-                        return
-                    self._come(end, summed(rest, gain), at)
+        mode, code, _, _ = self._steps[at]
+        held = self.ceilings[mode].codes
+        normal = self.packing.normal
+        changes = self._moves.changes(mode, code)
+        for end, change in changes:
+            if code not in held or self._moves.needed:
+                return
+            self._come(end, normal(code + change), at)
 
-    def _come(self, mode, bag, ahead):
+    def _come(self, mode, code, ahead):
         """Come to a standing behind another one, with ANY for what rounds make more and more of."""
-        roof = self.roofs[mode]
+        ceiling = self.ceilings[mode]
+        weight = code % self.packing.whole
+        is_covered = ceiling.covers(code, weight)
+        floor = weight if ahead is None else min(weight, self._steps[ahead][2])
         # What is held already, but was come to otherwise, can be more than a standing not far ahead.
-        most = MOST_AHEAD if roof.covers(bag) else len(self._steps)
-        lifted = self._lifted(mode, bag, ahead, most)
-        if roof.covers(lifted):
+        if floor < weight:
+            lifted = self._lifted(mode, code, ahead, MOST_AHEAD if is_covered else len(self._steps))
+            if lifted != code:
+                code, weight = lifted, lifted % self.packing.whole
+                is_covered = ceiling.covers(code, weight)
+        if is_covered:
             return
-        heappush(self._oldest, (self._ranks[mode], len(self._steps)))
-        heappush(self._widest, (self._ranks[mode], -lifted.count(ANY), len(self._steps)))
-        self._steps.append((mode, lifted, roof.put(lifted), ahead))
-        if self._size() > MOST_TOPS and self._is_endless():
+        at, rank = len(self._steps), self._ranks[mode]
+        heappush(self._oldest, (rank << INDEX_BITS) + at)
+        # The number of entries with ANY is told by the weight.
+        widest = ((rank + 1) << self.packing.bits) - (weight >> self.packing.shift)
+        heappush(self._widest, (widest << INDEX_BITS) + at)
+        self._steps.append((mode, code, floor, ahead))
+        ceiling.put(code, weight)
+        if at >= self._look and self._size() > MOST_TOPS and self._is_endless():
             raise TooMany(MOST_TOPS)
 
     def _is_endless(self):
         """Whether too many tops are shown, or the climb is given up."""
         many = len(self._steps)
-        if many < self._look:
+        is_first = self._look == MOST_TOPS
+        self._look = FIRST_LOOK if many < FIRST_LOOK else 2 * many
+        if is_first and are_flat(self._program, self._table, self._held(), MOST_TOPS):
+            return True
+        if many < FIRST_LOOK:
             return False
-        self._look = 2 * many
         if are_shown(self._program, self._table, self._held(), MOST_TOPS):
             return True
         self._raise_held()
@@ -109,30 +139,31 @@ class Climb:
 
     def _raise_held(self):
         """Come to more behind some of the standings that are held, where rounds that are searched for lead to it."""
-        held = [at for at, step in enumerate(self._steps) if self.roofs[step[0]].holds(step[2])]
+        held = [at for at, step in enumerate(self._steps) if self.ceilings[step[0]].holds(step[1])]
         for index in range(MOST_RAISED):
             at = held[(2 * index + 1) * len(held) // (2 * MOST_RAISED)]
-            mode, bag = self._steps[at][:2]
-            self._come(mode, raised_by_rounds(self._program, self._table, mode, bag), at)
+            mode, code = self._steps[at][:2]
+            bag = raised_by_rounds(self._program, self._table, mode, self.packing.unpacked(code))
+            self._come(mode, self.packing.packed(bag), at)
 
-    def _lifted(self, mode, bag, ahead, most):
-        """The bag with ANY for each entry that is more than in a standing within it of so many ones ahead at most."""
-        below = self.roofs[mode].below(bag)
+    def _lifted(self, mode, code, ahead, most):
+        """The code with ANY for each entry that is more than in a standing within it of so many ones ahead at most."""
+        guard = self.packing.guard
+        weight = code % self.packing.whole
         at, left = ahead, most
-        while at is not None and left and below:
-            other, less, place, before = self._steps[at]
-            raised = raised_over(less, bag) if other == mode and (below >> place) & 1 else bag
+        while at is not None and left:
+            other, less, floor, before = self._steps[at]
+            # Neither this one nor any one ahead of it is lighter.
+            if floor >= weight:
+                break
             at, left = before, left - 1
-            if raised != bag:
-                # With more in the bag, standings that were passed already can be within it.
-                bag, below = raised, self.roofs[mode].below(raised)
-                at, left = ahead, most
-        return bag
-
-
-def raised_over(less, bag):
-    """The bag with ANY for each entry that is more than the one of a bag within it."""
-    return tuple([ANY if few < many else many for few, many in zip(less, bag)])
+            if other == mode and ((code | guard) - less) & guard == guard:
+                raised = self.packing.raised(less, code)
+                if raised != code:
+                    # With more in the bag, standings that were passed already can be within it.
+                    code, weight = raised, raised % self.packing.whole
+                    at, left = ahead, most
+        return code
 
 
 def mode_ranks(program, table):

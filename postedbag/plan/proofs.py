@@ -31,6 +31,17 @@ def are_shown(program, table, standings, most):
     return len(shown) > most
 
 
+def are_flat(program, table, standings, most):
+    """Whether more than the most of some standings that are covered are tops, for no take makes more tasks of one."""
+    try:
+        takes = possible_takes(program, table)
+    except TooMany:
+        return False
+    if not all([ANY not in gain and sum(gain) <= 1 for _, _, _, gain in takes]):
+        return False
+    return len([bag for _, bag in standings if sum(bag) == sum(program.begin)]) > most
+
+
 def weighed(program, takes, standing, huge):
     """Weights of modes, and of tasks in modes, by which no take makes anything heavier and nothing that is covered is
     heavier than the standing, with a weight of each entry of it but ANY, if there are such weights."""

@@ -1,6 +1,7 @@
 """Searches for rows of as few takes as possible that lead to a mode with at least a bag."""
 
 from postedbag.plan.bounds import Bounds
+from postedbag.plan.bulks import behind_bulk, in_bulks
 from postedbag.plan.joins import are_joined
 from postedbag.plan.queues import Queues
 from postedbag.base.bags import ANY, changed, fits, summed
@@ -11,6 +12,10 @@ from postedbag.plan.possible import possible_ways, reduced, task_ways
 MOST_TAKES = 1000
 # So many steps are looked at in a search for rounds.
 MOST_LOOKS = 100
+# The rows to so many modes and bags are kept with a program.
+MOST_KEPT = 200
+# So often it is tried to put counted takes in an order at once.
+MOST_BULKS = 40
 
 
 class Search:
@@ -36,6 +41,10 @@ class Search:
         self._begun = {}
         self._queues = Queues()
         self._is_stuck = False
+        # The step from which counted takes have been put in an order, and their row; how often that was tried.
+        self._last = None
+        self._bulks = []
+        self._tries = 0
         for mode, bag in begins:
             self._steps.append((mode, self._cut(bag), 0, None, None))
             self._put(len(self._steps) - 1, 0, False)
@@ -56,6 +65,9 @@ class Search:
             if mode == self._end[0] and fits(self._end[1], bag):
                 return self._row(at)
             self._go_on(at, least)
+            if self._last is not None:
+                start, row = self._row(self._last)
+                return start, row + self._bulks
         return None
 
     def _put(self, at, least, is_straight):
@@ -107,6 +119,8 @@ class Search:
         mode, bag = self._steps[at][:2]
         takes = self._takes_there(bag)[0]
         counts = self._counts[at]
+        if self._is_found(at, takes, counts):
+            return
         self._begun[at] = True
         self._put(at, least, False)
         there = [index for index in counts if is_there(takes[index], mode, bag)]
@@ -115,6 +129,16 @@ class Search:
         # It is best to have any number of a task as soon as possible.
         for index in sorted(there, key=lambda one: -takes[one][3].count(ANY)):
             self._come(at, takes[index], least, less(counts, index))
+
+    def _is_found(self, at, takes, counts):
+        """Whether takes that are counted at a step lead from there to the end in an order that is found at once."""
+        mode, bag = self._steps[at][:2]
+        self._tries += 1
+        bulks = in_bulks(takes, counts, mode, bag, self._end) if self._tries <= MOST_BULKS else None
+        if bulks is not None:
+            self._last = at
+            self._bulks = [(*self._way_and_gain(takes[index]), many) for index, many in bulks]
+        return bulks is not None
 
     def _go_elsewhere(self, at, least):
         """Make those takes from a step that are not counted there."""
@@ -169,14 +193,18 @@ class Search:
         return tuple([ANY if many >= end + self._most else many for many, end in zip(bag, self._end[1])])
 
     def _row(self, at):
-        """The first mode, and the list of the takes to a step as pairs of a way and a gain."""
+        """The first mode, and the list of the takes to a step: a way, a gain, and how often the take is made."""
         row = []
         while self._steps[at][3] is not None:
-            mode, task, end, gain = self._steps[at][3]
-            way = (self._program.names[task], 0, mode, end)
-            row.append((way, self._gains[way, gain]))
+            row.append((*self._way_and_gain(self._steps[at][3]), 1))
             at = self._steps[at][4]
         return self._steps[at][0], row[::-1]
+
+    def _way_and_gain(self, take):
+        """The way of a take, and the gain that its own one stands for."""
+        mode, task, end, gain = take
+        way = (self._program.names[task], 0, mode, end)
+        return way, self._gains[way, gain]
 
 
 def wide_places(bag):
@@ -194,12 +222,24 @@ def less(counts, index):
     return {one: counts[one] - int(one == index) for one in counts if one != index or counts[one] > 1}
 
 
-def least_row(program, table, roofs, mode, bag):
-    """The start and the list of the takes, as pairs of way and gain, of a least row to what is covered.
+def least_row(program, table, covered, mode, bag):
+    """The start of a least row to what is covered, and the list of its takes.
 
-    TooMany if it has too many takes.
+    They are told by a way, a gain, and how often the take is made. TooMany if there are too many takes.
     """
-    ways = covered_ways(program, table, roofs, mode)
+    kept = program.notes.setdefault("rows", {})
+    if (mode, bag) not in kept:
+        if len(kept) >= MOST_KEPT:
+            kept.clear()
+        kept[mode, bag] = found_row(program, table, covered, mode, bag)
+    if kept[mode, bag] is None:
+        raise TooMany(MOST_TAKES)
+    return kept[mode, bag]
+
+
+def found_row(program, table, covered, mode, bag):
+    """The start and the takes of a least row to what is covered, or None if there are too many takes."""
+    ways = covered_ways(program, table, covered, mode)
     begins = [(start, program.begin) for start in program.starts]
     most = first_most(program, table, ways, (mode, bag))
     while most <= MOST_TAKES:
@@ -208,7 +248,7 @@ def least_row(program, table, roofs, mode, bag):
         if row is not None:
             return row
         most = MOST_TAKES if most < MOST_TAKES < 2 * most else 2 * most
-    raise TooMany(MOST_TAKES)
+    return None
 
 
 def raised_by_rounds(program, table, mode, bag):
@@ -227,10 +267,15 @@ def raised_by_rounds(program, table, mode, bag):
 
 
 def behind_row(program, bag, row):
-    """The wide bag behind the takes of a row, which are pairs of a way and a gain."""
-    for way, gain in row:
-        bag = summed(changed(bag, program.names.index(way[0]), -1), gain)
+    """The wide bag behind the takes of a row."""
+    for way, gain, many in row:
+        bag = tuple(behind_bulk((way[2], program.names.index(way[0]), way[3], gain), many, bag))
     return bag
+
+
+def length_of(row):
+    """The number of the takes of a row."""
+    return sum([many for _, _, many in row])
 
 
 def first_most(program, table, ways, end):
@@ -241,11 +286,11 @@ def first_most(program, table, ways, end):
     return max(1, min([least for least in found if least is not None], default=MOST_TAKES + 1))
 
 
-def covered_ways(program, table, roofs, mode):
+def covered_ways(program, table, covered, mode):
     """The pairs of a way of a task and the index of the task, for the tasks that can be taken on rows to a mode."""
     found = []
-    for begin, roof in enumerate(roofs):
-        there = [roof.covers(single(len(program), at)) for at in range(len(program))]
+    for begin in range(program.modes):
+        there = [covered.covers(begin, single(len(program), at)) for at in range(len(program))]
         ways = task_ways(program, begin, there)
         found.extend([(way, program.names.index(way[0])) for way in ways if table.gains(way)])
     back = {mode: True}

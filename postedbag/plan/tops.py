@@ -5,8 +5,8 @@ from postedbag.base.checks import check_bag, check_mode, check_program, is_stand
 from postedbag.base.roofs import roof_of
 from postedbag.base.words import ascends
 from postedbag.errors import InvalidOperation, TooMany
-from postedbag.know.tables import MOST_GAINS, GainTable
-from postedbag.plan.climb import Climb
+from postedbag.know.tables import MOST_GAINS, table_of
+from postedbag.plan.covered import covered_of
 
 
 def is_bar(program, value):
@@ -26,7 +26,7 @@ class Tops:
     def __init__(self, program):
         check_program(program)
         self._program = program
-        self._rows = Climb(program, GainTable(program)).tops()
+        self._covered = covered_of(program)
 
     @property
     def program(self):
@@ -36,30 +36,30 @@ class Tops:
     @property
     def rows(self):
         """The ascending tuple of the tops."""
-        return self._rows
+        return self._covered.summits
 
     @property
     def modes(self):
         """The ascending tuple of the modes to which runs come between tasks."""
-        return modes_of(self._rows)
+        return modes_of(self._covered.summits)
 
     def covers(self, mode, bag):
         """Whether a mode and a bag are covered."""
         check_mode(self._program, mode)
         check_bag(self._program, bag)
-        return is_below(mode, bag, self._rows)
+        return self._covered.covers(mode, bag)
 
     def above(self, bar):
         """Whether each top is within a standing of a tuple."""
         if not are_standings(self._program, bar):
             raise InvalidOperation("a tuple of standings of the program is needed")
-        return all([is_below(mode, bag, bar) for mode, bag in self._rows])
+        return all([is_below(mode, bag, bar) for mode, bag in self._covered.summits])
 
     def __contains__(self, other):
-        return is_standing(self._program, other) and other in self._rows
+        return is_standing(self._program, other) and other in self._covered.summits
 
     def __len__(self):
-        return len(self._rows)
+        return len(self._covered.summits)
 
     def __eq__(self, other):
         if not isinstance(other, Tops):
@@ -67,7 +67,7 @@ class Tops:
         return self._program == other._program
 
     def __str__(self):
-        return f"{len(self._rows)} tops in {len(modes_of(self._rows))} modes"
+        return f"{len(self._covered.summits)} tops in {len(modes_of(self._covered.summits))} modes"
 
 
 def are_standings(program, value):
@@ -92,7 +92,7 @@ def roofs_of(program, rows):
 
 def holds_all(program, rows, roofs):
     """Whether each take from each of some standings leads below their roofs."""
-    table = GainTable(program)
+    table = table_of(program)
     beyond = False
     for way in taken_ways(program, rows):
         try:
