@@ -7,7 +7,7 @@ from postedbag.plan.bounds import Bounds
 from postedbag.plan.joins import are_joined, can_be_made, homes_of, reached, stays
 from postedbag.base.bags import ANY
 from postedbag.base.programs import Procedure, Program
-from postedbag.know.tables import GainTable
+from postedbag.know.tables import table_of
 from postedbag.plan.possible import merged, possible_takes, possible_ways
 from postedbag.plan.search import Search, length_of, raised_by_rounds
 from postedbag.plan.tops import Tops
@@ -82,7 +82,7 @@ class BoundsTest(unittest.TestCase):
     def test_merged_takes_need_no_more(self):
         for seed in range(60):
             program = onward(seed, modes=3) if seed % 2 else loose(seed, modes=3)
-            takes = possible_takes(program, GainTable(program))
+            takes = possible_takes(program, table_of(program))
             end = random_question(program, seed)
             for start in program.starts:
                 least = bounds_of(program, takes, end).least(start, program.begin)[0]
@@ -90,7 +90,7 @@ class BoundsTest(unittest.TestCase):
                 self.assertTrue(least is None or fewer is not None and fewer <= least)
 
     def test_tasks_that_are_known_do_not_count(self):
-        takes = possible_takes(GROW, GainTable(GROW))
+        takes = possible_takes(GROW, table_of(GROW))
         bounds = bounds_of(GROW, takes, (0, (0, 1, 9, 9)), (False, False, True, False))
         self.assertEqual(bounds.least(0, (1, 0, ANY, 0))[0], 10)
         self.assertEqual(bounds.least(0, (0, 1, ANY, 0))[0], 9)
@@ -104,13 +104,13 @@ class BoundsTest(unittest.TestCase):
         # Of each p come two q, so that for three of them two p are needed.
         double = Procedure("p", 3, ("post", 0, 1, "q", (0,)), ("post", 1, 2, "q", (0,)), ("leave", 2, (0,)))
         program = Program(1, (0,), (5, 0), double, *quiet("q"))
-        takes = possible_takes(program, GainTable(program))
+        takes = possible_takes(program, table_of(program))
         for many, needed in ((0, 0), (1, 1), (2, 1), (3, 2), (9, 5), (10, 5)):
             self.assertEqual(bounds_of(program, takes, (0, (0, many))).least(0, program.begin)[0], needed)
         self.assertEqual(bounds_of(program, takes, (0, (0, 11))).least(0, program.begin), (None, None))
 
     def test_any_number_by_one_take(self):
-        takes = possible_takes(JOBS, GainTable(JOBS))
+        takes = possible_takes(JOBS, table_of(JOBS))
         bounds = bounds_of(JOBS, takes, (0, (0, 50)))
         self.assertEqual(bounds.least(0, JOBS.begin), (1, {takes.index((0, 0, 0, (0, ANY))): 1}))
 
@@ -127,7 +127,7 @@ class BoundsTest(unittest.TestCase):
         self.assertIsNotNone(bounds_of(program, takes, (1, (0, 3))).least(0, (3, 0))[0])
 
     def test_what_was_found_is_kept(self):
-        takes = possible_takes(GROW, GainTable(GROW))
+        takes = possible_takes(GROW, table_of(GROW))
         bounds = bounds_of(GROW, takes, (0, (0, 1, 9, 9)))
         self.assertEqual(bounds.low(0, (1, 0, 0, 0)), 0)
         self.assertEqual(bounds.least(0, (1, 0, 0, 0))[0], 19)
@@ -136,14 +136,14 @@ class BoundsTest(unittest.TestCase):
         for seed in range(40):
             program = onward(seed, modes=3) if seed % 2 else loose(seed, modes=3)
             source = random.Random(seed)
-            bounds = bounds_of(program, possible_takes(program, GainTable(program)), random_question(program, seed))
+            bounds = bounds_of(program, possible_takes(program, table_of(program)), random_question(program, seed))
             for _ in range(12):
                 mode, bag = source.randrange(program.modes), tuple(source.randint(0, 3) for _ in range(len(program)))
                 low, least = bounds.low(mode, bag), bounds.least(mode, bag)[0]
                 self.assertTrue(least is None or low <= least)
 
     def test_nothing_is_left_behind_by_a_question(self):
-        takes = possible_takes(DOOR, GainTable(DOOR))
+        takes = possible_takes(DOOR, table_of(DOOR))
         for end in ((1, (1, 0, 1)), (0, (0, 1, 0)), (1, (0, 0, 0))):
             bounds = bounds_of(DOOR, takes, end)
             first = [bounds.least(mode, bag) for mode in (0, 1) for bag in ((1, 0, 1), (0, 1, 1), (3, 3, 3))]
@@ -153,7 +153,7 @@ class BoundsTest(unittest.TestCase):
 
 class SearchTest(unittest.TestCase):
     def search(self, program, begins, end, most):
-        table = GainTable(program)
+        table = table_of(program)
         ways = [(way, program.names.index(way[0])) for way in possible_ways(program, table)]
         return Search(program, table, ways, begins, end, most)
 
@@ -172,15 +172,15 @@ class SearchTest(unittest.TestCase):
         self.assertEqual(len(self.search(GROW, begins, (0, (0, 0, 9, 9)), 99).least_row(None)[1]), 0)
 
     def test_what_rounds_make_more_of(self):
-        table = GainTable(GROW)
+        table = table_of(GROW)
         self.assertEqual(raised_by_rounds(GROW, table, 0, (0, 1, 0, 0)), (0, 1, ANY, ANY))
         self.assertEqual(raised_by_rounds(GROW, table, 0, (1, 0, 0, 0)), (1, 0, 0, 0))
         self.assertEqual(raised_by_rounds(GROW, table, 0, (0, 3, 5, ANY)), (0, 3, ANY, ANY))
-        table = GainTable(DOOR)
+        table = table_of(DOOR)
         self.assertEqual(raised_by_rounds(DOOR, table, 0, (1, 0, 1)), (1, 0, 1))
         # Where some possible way has too many gains nothing is raised.
         program = MANY.with_begin((1,) * len(MANY))
-        self.assertEqual(raised_by_rounds(program, GainTable(program), 0, program.begin), program.begin)
+        self.assertEqual(raised_by_rounds(program, table_of(program), 0, program.begin), program.begin)
 
     def test_only_what_is_covered_is_raised(self):
         raised = 0
@@ -188,7 +188,7 @@ class SearchTest(unittest.TestCase):
             program = onward(seed, modes=3) if seed % 2 else loose(seed, modes=3)
             rows = Tops(program).rows
             for start in program.starts:
-                bag = raised_by_rounds(program, GainTable(program), start, program.begin)
+                bag = raised_by_rounds(program, table_of(program), start, program.begin)
                 self.assertTrue(is_below(program.begin, bag))
                 self.assertTrue(any(mode == start and is_below(bag, wide) for mode, wide in rows))
                 raised += bag != program.begin
@@ -210,7 +210,7 @@ class JoinsTest(unittest.TestCase):
     def test_against_all_rows(self):
         for seed in range(40):
             program = loose(seed, modes=3)
-            takes = possible_takes(program, GainTable(program))
+            takes = possible_takes(program, table_of(program))
             tops = Tops(program).rows
             for start in program.starts:
                 modes, tasks = reached(program, takes, start, program.begin)

@@ -6,7 +6,7 @@ import unittest
 from postedbag.base.bags import ANY
 from postedbag.base.programs import Procedure, Program
 from postedbag.errors import TooMany
-from postedbag.know.tables import GainTable
+from postedbag.know.tables import table_of
 from postedbag.plan.climb import mode_ranks
 from postedbag.plan.possible import merged, possible_takes
 from postedbag.plan.proofs import are_shown, is_heaviest, weighed
@@ -27,7 +27,7 @@ class ShownTest(unittest.TestCase):
             program = onward(seed, procedures=3) if seed % 2 else loose(seed)
             source = random.Random(seed)
             rows = Tops(program).rows
-            takes = possible_takes(program, GainTable(program))
+            takes = possible_takes(program, table_of(program))
             some = [source.choice(rows) for _ in range(3)]
             for mode, wide in list(some):
                 some.append((mode, tuple(source.choice((many, 0, 3)) if many == ANY else source.randint(0, many) for many in wide)))
@@ -43,7 +43,7 @@ class ShownTest(unittest.TestCase):
         for many in (1, 3, 50):
             program = TURNS.with_begin((many, 0))
             rows = Tops(program).rows
-            table = GainTable(program)
+            table = table_of(program)
             self.assertIs(are_shown(program, table, list(rows), many), True)
             self.assertIs(are_shown(program, table, list(rows), many + 1), False)
             self.assertIs(are_shown(program, table, [(0, (0, 0))] * 5, 0), False)
@@ -51,19 +51,19 @@ class ShownTest(unittest.TestCase):
     def test_tasks_that_come_and_come(self):
         source = Procedure("r", 1, ("post", 0, 0, "s", (0,)), LEAVE)
         program = Program(1, (0,), (9, 0, 1, 0), plain("p", post("q")), *quiet("q"), source, *quiet("s"))
-        self.assertIs(are_shown(program, GainTable(program), list(Tops(program).rows), 19), True)
+        self.assertIs(are_shown(program, table_of(program), list(Tops(program).rows), 19), True)
 
     def test_gains_that_are_too_many(self):
         program = MANY.with_begin((0, 0, 0, 0, 1))
-        self.assertIs(are_shown(program, GainTable(program), [(0, (0, 0, 0, 0, 1))], 0), False)
-        self.assertRaises(TooMany, possible_takes, program, GainTable(program))
+        self.assertIs(are_shown(program, table_of(program), [(0, (0, 0, 0, 0, 1))], 0), False)
+        self.assertRaises(TooMany, possible_takes, program, table_of(program))
 
 
 class PossibleTest(unittest.TestCase):
     def test_all_takes_that_can_be(self):
         for seed in range(60):
             program = loose(seed, modes=3)
-            possible = set(possible_takes(program, GainTable(program)))
+            possible = set(possible_takes(program, table_of(program)))
             tops = Tops(program)
             for at, mode, end, gain in takes_of(program, gains_of_tasks(program)):
                 single = tuple(int(index == at) for index in range(len(program)))
@@ -75,10 +75,10 @@ class PossibleTest(unittest.TestCase):
         self.assertEqual(merged(takes), [(0, 1, 0, (4, 5, ANY)), (0, 1, 1, (1, 1, 1))])
 
     def test_ranks(self):
-        self.assertEqual(mode_ranks(DOOR, GainTable(DOOR)), [-2, -2])
+        self.assertEqual(mode_ranks(DOOR, table_of(DOOR)), [-2, -2])
         turn = Procedure("p", 2, ("go", 0, 1, ((0, 1), (1, 2))), ("leave", 1, (1, 2)))
         program = Program(4, (0,), (1,), turn)
-        self.assertEqual(mode_ranks(program, GainTable(program)), [-3, -2, -1, -1])
+        self.assertEqual(mode_ranks(program, table_of(program)), [-3, -2, -1, -1])
 
 
 class GreatBeginsTest(unittest.TestCase):

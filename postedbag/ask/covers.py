@@ -1,11 +1,11 @@
 """What is covered, and the papers that show it."""
 
-from postedbag.plan.search import least_row, length_of
-from postedbag.base.bags import ANY, changed, fits
-from postedbag.base.checks import check_bag, check_mode, check_program
-from postedbag.know.builds import built
+from postedbag.base.bags import fits
+from postedbag.base.checks import check_question
 from postedbag.know.tables import table_of
 from postedbag.plan.covered import covered_of
+from postedbag.plan.rows import filled
+from postedbag.plan.search import least_row, length_of
 from postedbag.plan.takes import end_behind
 from postedbag.plan.tops import are_standings, is_bar, is_below
 
@@ -47,26 +47,3 @@ def is_cover_paper(program, mode, bag, value):
     if value[0] != "bar" or len(value) != 2 or not are_standings(program, value[1]):
         return False
     return not is_below(mode, bag, value[1]) and is_bar(program, value[1])
-
-
-def check_question(program, mode, bag):
-    """Raise the error of the first one that is no program, no mode or no bag of it."""
-    check_program(program)
-    check_mode(program, mode)
-    check_bag(program, bag)
-
-
-def filled(program, table, row, bag):
-    """The takes of a row, with uses that post what the takes behind them and a bag at the end need."""
-    takes = []
-    known = {}
-    for way, gain, many in row[::-1]:
-        for _ in range(many):
-            posts = tuple([need if more == ANY else min(need, more) for need, more in zip(bag, gain)])
-            if (way, posts) not in known:
-                known[way, posts] = built(program, table, way, posts)
-            uses = known[way, posts]
-            takes.append((way[0], way[3], {rule: uses[rule] for rule in uses}))
-            rest = tuple([need - post for need, post in zip(bag, posts)])
-            bag = changed(rest, program.names.index(way[0]), 1)
-    return tuple(takes[::-1])

@@ -51,6 +51,13 @@ def check_bag(program, value):
         raise InvalidBag("a bag of the program is needed")
 
 
+def check_question(program, mode, bag):
+    """Raise the error of the first one that is no program, no mode or no bag of it."""
+    check_program(program)
+    check_mode(program, mode)
+    check_bag(program, bag)
+
+
 def move_at(program, site):
     """The move at a site of the program, or None if it is no site."""
     try:

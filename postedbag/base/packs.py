@@ -44,6 +44,10 @@ class Packing:
             code >>= self.bits
         return tuple(entries)
 
+    def recoded(self, code, packing):
+        """The code of the wide bag of which a code is told by another packing."""
+        return code if self.bits == packing.bits else self.packed(packing.unpacked(code))
+
     def one(self, at):
         """The code of the bag with one task."""
         return 1 << (self.bits * at)

@@ -10,40 +10,50 @@ def are_counts(program, value):
         return False
     if not all([has_rule(program, rule) for rule in value]):
         return False
-    return all([is_integer(many) and many >= 1 for many in value.values()])
+    return are_numbers(list(value.values()))
+
+
+def are_numbers(values):
+    """Whether each of some values is an integer from 1 on."""
+    return all([is_integer(many) and many >= 1 for many in values])
 
 
 def are_right(program, way, value):
     """Whether the value is right uses of a way."""
-    return are_counts(program, value) and balance(program, way, value) and are_joined(program, way, value)
+    if not are_counts(program, value):
+        return False
+    return are_one_way(way, [(way_of(program, rule), behind_of(program, rule), value[rule]) for rule in value])
 
 
-def balance(program, way, uses):
-    """Whether each way has as many steps as how often it stands behind some, and the one of the uses one more."""
+def are_one_way(way, steps):
+    """Whether some steps balance and are joined: each has its own way, the ways behind it, and a number."""
+    return balance(way, steps) and are_joined(way, steps)
+
+
+def balance(way, steps):
+    """Whether each way has as many steps as how often it stands behind some, and the first one one more."""
     made = {}
     wanted = {way: 1}
-    for rule, many in uses.items():
-        own = way_of(program, rule)
+    for own, behind, many in steps:
         made[own] = made.get(own, 0) + many
-        for other in behind_of(program, rule):
+        for other in behind:
             wanted[other] = wanted.get(other, 0) + many
     return made == wanted
 
 
-def are_joined(program, way, uses):
-    """Whether each way that has a rule can be come to from the way of the uses."""
+def are_joined(way, steps):
+    """Whether each way that has a step can be come to from the first one."""
     ways = {}
-    for rule in uses:
-        ways.setdefault(way_of(program, rule), []).append(rule)
+    for own, behind, _ in steps:
+        ways.setdefault(own, []).extend(behind)
     met = {way: True}
     waiting = [way]
     while waiting:
         here = waiting.pop()
-        for rule in ways.get(here, []):
-            for other in behind_of(program, rule):
-                if other not in met:
-                    met[other] = True
-                    waiting.append(other)
+        for other in ways.get(here, []):
+            if other not in met:
+                met[other] = True
+                waiting.append(other)
     return all([own in met for own in ways])
 
 

@@ -37,16 +37,18 @@ class Part:
 def table_of(program):
     """The gains of the ways of a program, which are kept with it."""
     if "table" not in program.notes:
-        program.notes["table"] = GainTable(program)
+        program.notes["table"] = GainTable(program, Grammar(program, way_rows(program), None), MOST_GAINS)
     return program.notes["table"]
 
 
 class GainTable:
     """The gains of the ways of a program, worked out when they are asked for."""
 
-    def __init__(self, program):
-        self.grammar = Grammar(program, way_rows(program))
-        self._packing = Packing(len(program), FIRST_MOST)
+    def __init__(self, program, grammar, most):
+        self.grammar = grammar
+        # A way can have so many gains at most.
+        self._most = most
+        self.packing = Packing(len(program), FIRST_MOST)
         self._parts = {}
         self._beyond = {}
         # Many ways have the same gains, and their sums are kept by the numbers of these.
@@ -60,7 +62,7 @@ class GainTable:
             return ()
         part = self.part(way)
         if part.bags is None:
-            part.bags = tuple(sorted([self._packing.unpacked(code) for code in part.codes]))
+            part.bags = tuple(sorted([self.packing.unpacked(code) for code in part.codes]))
         return part.bags
 
     def gains_over(self, way, bag):
@@ -70,7 +72,7 @@ class GainTable:
             alike = {}
             for gain in self.gains(way):
                 alike.setdefault(summed(gain, wide), gain)
-            self._over[way, wide] = [alike[gain] for gain in greatest_of(alike, MOST_GAINS)]
+            self._over[way, wide] = [alike[gain] for gain in greatest_of(alike, len(alike))]
         return self._over[way, wide]
 
     def part(self, way):
@@ -83,21 +85,21 @@ class GainTable:
 
     def is_pumped(self, way, task):
         """Whether rounds from a good way back to itself can post a task."""
-        return self.part(way).pumped & self._packing.endless(task) != 0
+        return self.part(way).pumped & self.packing.endless(task) != 0
 
     def origin(self, way, gain):
         """How a gain of a way comes about: what ends the rounds, as its way, its rule, the ways behind it and a gain of
         each of these; None for the gain that any uses with enough rounds have."""
         part = self.part(way)
         if gain not in part.origins:
-            part.origins[gain] = None if part.pumped == part.reached else self._found(part, self._packing.packed(gain))
+            part.origins[gain] = None if part.pumped == part.reached else self._found(part, self.packing.packed(gain))
         return part.origins[gain]
 
     def _settle(self, way):
         """Work out the parts of a good way and of all that it leads to."""
         for ways in parts_from(self.grammar, way, self._parts):
             part = self._part_of(ways)
-            if part is None or not self._has_gains(part):
+            if part is None:
                 for own in [way, *ways]:
                     self._beyond[own] = True
                 raise TooMany(MOST_GAINS)
@@ -105,7 +107,7 @@ class GainTable:
                 self._parts[own] = part
 
     def _part_of(self, ways):
-        """The part of some ways, without its gains, or None if it leads to one that has too many."""
+        """The part of some ways, or None if it has too many gains, or leads to such a one."""
         inner = {way: True for way in ways}
         rows = [(way, rule, behind) for way in ways for rule, behind in self.grammar.rules(way)]
         if self._beyond and any([own in self._beyond for row in rows for own in (row[0], *row[2])]):
@@ -119,12 +121,13 @@ class GainTable:
                 if other in inner:
                     pumped |= self._posts(rule, behind[:at] + behind[at + 1:], inner, reached)
         ends = [row for row in rows if not any([own in inner for own in row[2]])]
-        return Part(len(self._parts), ways, ends, reached, pumped)
+        part = Part(len(self._parts), ways, ends, reached, pumped)
+        return part if self._has_gains(part) else None
 
     def _posts(self, rule, behind, inner, own):
         """A code with ANY for what a rule posts, or some ways behind it, of which inner ones post their own."""
         task = self.grammar.task(rule)
-        code = 0 if task is None else self._packing.endless(task)
+        code = 0 if task is None else self.packing.endless(task)
         for other in behind:
             code |= own if other in inner else self._parts[other].reached
         return code
@@ -148,16 +151,16 @@ class GainTable:
     def _sum_of(self, part):
         """The list of the codes of the gains of a part but for what is pumped, or None if there are too many."""
         rows = self._rows_of(part)
-        if part.most > self._packing.most:
+        if part.most > self.packing.most:
             self._widen(part)
             rows = self._rows_of(part)
         key = (part.pumped, *rows)
         if key not in self._sums:
             keep = self._kept_of(part)
             sums = [(own & keep, [self._cut(other, keep) for other in parts]) for own, parts in rows.values()]
-            is_seen = are_beyond(self._packing, sums, MOST_GAINS)
-            found = [] if is_seen else summed_all(self._packing, sums)
-            self._sums[key] = None if is_seen else self._packing.highest(found, MOST_GAINS)
+            is_seen = are_beyond(self.packing, sums, self._most)
+            found = [] if is_seen else summed_all(self.packing, sums)
+            self._sums[key] = None if is_seen else self.packing.highest(found, self._most)
         return self._sums[key]
 
     def _rows_of(self, part):
@@ -176,28 +179,28 @@ class GainTable:
     def _posted(self, rule):
         """The code of the bag that a rule itself posts."""
         task = self.grammar.task(rule)
-        return 0 if task is None else self._packing.one(task)
+        return 0 if task is None else self.packing.one(task)
 
     def _kept_of(self, part):
         """All bits of those entries of which rounds through the ways of a part post none."""
-        return self._packing.every ^ self._packing.full(part.pumped)
+        return self.packing.every ^ self.packing.full(part.pumped)
 
     def _cut(self, part, keep):
         """The codes of the gains of a part, without those entries that are not kept."""
         if part.reached & ~keep == 0:
             return part.codes
-        return self._packing.highest([code & keep for code in part.codes], MOST_GAINS)
+        return self.packing.highest([code & keep for code in part.codes], self._most)
 
     def _widen(self, part):
         """Take more bits for each entry, for a part that is being worked out needs them."""
-        old = self._packing
-        self._packing = Packing(old.length, part.most * part.most)
+        old = self.packing
+        self.packing = Packing(old.length, part.most * part.most)
         self._sums, self._numbers = {}, {}
         parts = {other.number: other for other in self._parts.values()}
         for other in [*parts.values(), part]:
-            other.codes = [self._packing.packed(old.unpacked(code)) for code in other.codes]
-            other.reached = self._packing.packed(old.unpacked(other.reached))
-            other.pumped = self._packing.packed(old.unpacked(other.pumped))
+            other.codes = [self.packing.recoded(code, old) for code in other.codes]
+            other.reached = self.packing.recoded(other.reached, old)
+            other.pumped = self.packing.recoded(other.pumped, old)
             other.alike = self._number(other.codes)
 
     def _found(self, part, wanted):
@@ -205,7 +208,7 @@ class GainTable:
         keep = self._kept_of(part)
         for way, rule, behind in part.ends:
             lists = [self._parts[other].codes for other in behind]
-            codes = split(self._packing, self._posted(rule) & keep, lists, keep, wanted & keep)
+            codes = split(self.packing, self._posted(rule) & keep, lists, keep, wanted & keep)
             if codes is not None:
-                return (way, rule, behind, tuple([self._packing.unpacked(code) for code in codes]))
+                return (way, rule, behind, tuple([self.packing.unpacked(code) for code in codes]))
         return None

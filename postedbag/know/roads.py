@@ -1,0 +1,52 @@
+"""Roads: the gains of the paths to a place."""
+
+from postedbag.errors import TooMany
+from postedbag.know.grammar import Grammar
+from postedbag.know.paths import path_rows
+from postedbag.know.tables import MOST_GAINS, GainTable, Part, table_of
+
+# A path can lead through others that have more gains than it can have itself.
+MOST_THROUGH = 1000
+# The tables of so many places are kept with a program.
+MOST_KEPT = 200
+
+
+class PathTable(GainTable):
+    """The gains of the paths to a place, and of the ways that stand behind their rules."""
+
+    def __init__(self, program, place, base):
+        grammar = Grammar(program, path_rows(program, place), base.grammar)
+        GainTable.__init__(self, program, grammar, MOST_THROUGH)
+        self._base = base
+
+    def path_gains(self, path):
+        """The ascending tuple of the gains of a path; TooMany if there are too many."""
+        found = self.gains(path)
+        if len(found) > MOST_GAINS:
+            raise TooMany(MOST_GAINS)
+        return found
+
+    def _part_of(self, ways):
+        """The part of some paths, or of some ways as the table of the ways has it."""
+        if not self._base.grammar.is_good(ways[0]):
+            return super()._part_of(ways)
+        known, packing = self._base.part(ways[0]), self._base.packing
+        part = Part(len(self._parts), ways, known.ends, 0, 0)
+        part.most = known.most
+        if part.most > self.packing.most:
+            self._widen(part)
+        part.codes = [self.packing.recoded(code, packing) for code in known.codes]
+        part.reached = self.packing.recoded(known.reached, packing)
+        part.pumped = self.packing.recoded(known.pumped, packing)
+        part.alike = self._number(part.codes)
+        return part
+
+
+def roads_to(program, place):
+    """The gains of the paths to a place, which are kept with the program."""
+    kept = program.notes.setdefault("roads", {})
+    if place not in kept:
+        if len(kept) >= MOST_KEPT:
+            kept.clear()
+        kept[place] = PathTable(program, place, table_of(program))
+    return kept[place]
