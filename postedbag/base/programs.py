@@ -73,7 +73,9 @@ class Program:
         self._begin = begin
         self._procedures = procedures
         self._names = names_of(procedures)
-        # What has been worked out about the program, which never changes, for whoever asks again.
+        # What has been worked out about the program, which never changes, for whoever asks again: all that depends on
+        # its modes and procedures alone, and the rest.
+        self.lore = {}
         self.notes = {}
 
     @classmethod
@@ -126,11 +128,11 @@ class Program:
 
     def with_starts(self, starts):
         """The program with other starts."""
-        return self._remade(starts, self._begin, self._procedures)
+        return self._started(starts, self._begin)
 
     def with_begin(self, begin):
         """The program with another bag at the beginning."""
-        return self._remade(self._starts, begin, self._procedures)
+        return self._started(self._starts, begin)
 
     def with_procedure(self, procedure):
         """The program with a procedure in the place of the one of this name, or as the last one."""
@@ -196,6 +198,12 @@ class Program:
         if not isinstance(value, tuple) or len(value) != 2 or value[0] not in self:
             return False
         return is_index(value[1], len(self[value[0]]))
+
+    def _started(self, starts, begin):
+        """The program with other starts or another bag at the beginning."""
+        made = self._remade(starts, begin, self._procedures)
+        made.lore = self.lore
+        return made
 
     def _remade(self, starts, begin, procedures):
         """The program with other parts; InvalidOperation if they make none."""

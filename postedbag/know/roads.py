@@ -44,7 +44,7 @@ class PathTable(GainTable):
 
 def roads_to(program, place):
     """The gains of the paths to a place, which are kept with the program."""
-    kept = program.notes.setdefault("roads", {})
+    kept = program.lore.setdefault("roads", {})
     if place not in kept:
         if len(kept) >= MOST_KEPT:
             kept.clear()

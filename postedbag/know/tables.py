@@ -36,9 +36,9 @@ class Part:
 
 def table_of(program):
     """The gains of the ways of a program, which are kept with it."""
-    if "table" not in program.notes:
-        program.notes["table"] = GainTable(program, Grammar(program, way_rows(program), None), MOST_GAINS)
-    return program.notes["table"]
+    if "table" not in program.lore:
+        program.lore["table"] = GainTable(program, Grammar(program, way_rows(program), None), MOST_GAINS)
+    return program.lore["table"]
 
 
 class GainTable:

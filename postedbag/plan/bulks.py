@@ -9,7 +9,8 @@ MOST_BULKS = 2500
 def in_bulks(takes, counts, mode, bag, end):
     """A list of pairs of the index of a take and how often it is made, or None if no such order is found.
 
-    The takes are counted, and lead from a mode and a wide bag to at least the end, a mode and a bag, too.
+    The takes are counted, and lead from a mode and a wide bag to at least the end, a mode and a bag, too, unless the
+    end is None.
     """
     left = {index: counts[index] for index in counts}
     bag = list(bag)
@@ -25,7 +26,7 @@ def in_bulks(takes, counts, mode, bag, end):
         row.append((index, many))
         mode = takes[index][2]
         bag = behind_bulk(takes[index], many, bag)
-    return row if mode == end[0] and fits(end[1], bag) else None
+    return row if end is None or (mode == end[0] and fits(end[1], bag)) else None
 
 
 def chosen(takes, left, mode, bag):

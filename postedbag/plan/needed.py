@@ -68,8 +68,6 @@ def leads_to(program, mode, bag, end):
     if mode == end[0] and fits(end[1], bag):
         return True
     begun = program.with_starts((mode,)).with_begin(bag)
-    # The gains of the ways are the same, whatever waits at the beginning.
-    begun.notes["table"] = table_of(program)
     try:
         return covered_of(begun).covers(*end)
     except TooMany:

@@ -30,6 +30,17 @@ class Steps:
             self._all[key] = [change for some in known for change in some]
         return self._all[key]
 
+    def takes(self, mode, code):
+        """The list of the takes that make the changes, in the same order: a task, the mode at its end, and its gain."""
+        bag = self._packing.unpacked(code & self._packing.wide)
+        return [
+            (name, end, gain)
+            for name, field in zip(self._program.names, self._fields)
+            if code & field
+            for end in range(self._program.modes)
+            for gain in self._table.gains_over((name, 0, mode, end), bag)
+        ]
+
     def _changes_of(self, mode, wide, at):
         """The list of changes by takes of a task, which has an index."""
         if (mode, wide, at) not in self._known:

@@ -1,0 +1,66 @@
+"""Tallies: how many takes rows can have at most, by counting what takes need and post."""
+
+from postedbag.base.bags import ANY
+from postedbag.base.linear import tableau_of
+from postedbag.errors import TooMany
+from postedbag.plan.bulks import in_bulks
+from postedbag.plan.possible import possible_ways
+
+MOST_TURNS = 600
+# With more different takes it is not tried.
+MOST_TAKES = 400
+
+
+class Tally:
+    """A number of takes that no row has more of, and a row of so many takes if one is found."""
+
+    def __init__(self, program, table):
+        self._program = program
+        # The takes: mode, index of the task, mode behind, gain.
+        self.counted = []
+        # No row has more takes than this; None if that is not known.
+        self.most = None
+        # The start of a row of so many takes and its bulks; None if none is found.
+        self.row = None
+        try:
+            ways = possible_ways(program, table)
+            self.counted = [
+                (way[2], program.names.index(way[0]), way[3], gain) for way in ways for gain in table.gains(way)
+            ]
+        except TooMany:
+            return
+        if len(self.counted) <= MOST_TAKES:
+            self._count()
+
+    def _count(self):
+        """Find the most takes from each start, and a row of so many."""
+        rows = []
+        for start in self._program.starts:
+            counts, whole = self._counted(start)
+            if counts is None:
+                return
+            rows.append((sum(counts) // whole, start, self._row_of(start, counts, whole)))
+        self.most = max([many for many, _, _ in rows])
+        for many, start, bulks in rows:
+            if many == self.most and bulks is not None:
+                self.row = (start, bulks)
+
+    def _row_of(self, start, counts, whole):
+        """The bulks of a row from a start in which the takes are made so often, if one is found at once."""
+        if not all([count % whole == 0 for count in counts]):
+            return None
+        wanted = {at: count // whole for at, count in enumerate(counts) if count}
+        return in_bulks(self.counted, wanted, start, self._program.begin, None)
+
+    def _counted(self, start):
+        """How often each take is made from a start where they are most together, and the number that this is over."""
+        tasks = [at for at in range(len(self._program)) if not any([take[3][at] == ANY for take in self.counted])]
+        rows = [[int(take[1] == at) - take[3][at] for take in self.counted] for at in tasks]
+        limits = [self._program.begin[at] for at in tasks]
+        for mode in range(self._program.modes):
+            rows.append([int(take[0] == mode) - int(take[2] == mode) for take in self.counted])
+            limits.append(int(mode == start))
+        tableau = tableau_of(rows, limits, [1] * len(self.counted))
+        if not tableau.grow(MOST_TURNS) or tableau.can_grow():
+            return None, 1
+        return tableau.point(len(self.counted))
