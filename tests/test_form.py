@@ -66,8 +66,8 @@ NOT_USED = set("mro elements open input law version_info with_traceback add_note
 LIBRARY = {"heapq", "math", "itertools", "collections"}
 # The methods of builtin values that are used at all.
 METHODS = set(
-    "append bit_length clear count endswith extend get index insert isalpha isdigit items join keys pop reverse setdefault split "
-    "startswith strip update values add discard".split()
+    "append bit_length clear count endswith extend get index insert isalpha isdigit items join keys partition pop reverse "
+    "setdefault split startswith strip update values add discard".split()
 )
 CHANGING = set("append clear extend insert pop remove reverse setdefault update add discard".split())
 FORBIDDEN = (

@@ -42,7 +42,8 @@ def is_row_paper(program, value):
     if not isinstance(value, tuple) or not value:
         return False
     if value[0] == "long" and len(value) == 4:
-        return shows_long(program, *value[1:])
+        _, start, first, part = value
+        return shows_long(program, start, first, part)
     if value[0] != "short" or len(value) != 3 or not is_ranked(program, value[1], value[2]):
         return False
     return shows_short(program, value[2])

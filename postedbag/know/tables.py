@@ -197,7 +197,7 @@ class GainTable:
         self.packing = Packing(old.length, part.most * part.most)
         self._sums, self._numbers = {}, {}
         parts = {other.number: other for other in self._parts.values()}
-        for other in [*parts.values(), part]:
+        for other in list(parts.values()) + [part]:
             other.codes = [self.packing.recoded(code, old) for code in other.codes]
             other.reached = self.packing.recoded(other.reached, old)
             other.pumped = self.packing.recoded(other.pumped, old)

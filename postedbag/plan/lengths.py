@@ -81,7 +81,8 @@ class Facts:
             return start, takes[:many]
         row = [max(self.ground.firsts, key=lambda first: self.lengths[first])]
         for _ in range(many):
-            row.append(max(self.ground.behind(*row[-1]), key=lambda other: self.lengths[other]))
+            mode, code = row[-1]
+            row.append(max(self.ground.behind(mode, code), key=lambda other: self.lengths[other]))
         return row[0][0], list(self.takes_along(row))
 
     def _told(self, take):

@@ -1,0 +1,1 @@
+"""Programs compared with one another, and with posts left out."""

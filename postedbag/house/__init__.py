@@ -1,0 +1,1 @@
+"""Projects: programs that change and keep their promises."""
