@@ -6,7 +6,8 @@ from postedbag.base.words import ascends, is_index
 from postedbag.errors import InvalidNumber, TooMany
 from postedbag.know.tables import table_of
 from postedbag.plan.backs import Backs
-from postedbag.plan.needed import MOST_LEVELS, has_within, is_closed, leads_to, needed_table
+from postedbag.plan.leads import leads_to
+from postedbag.plan.needed import MOST_LEVELS, has_within, is_closed, needed_table
 
 MOST_TAKES = 60
 MOST_NEEDS = 400

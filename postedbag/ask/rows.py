@@ -27,6 +27,13 @@ def row_paper(program):
     """A paper that shows that rows are long, or how many takes they have at most."""
     check_program(program)
     facts = facts_of(program)
+    if "row paper" not in program.notes:
+        program.notes["row paper"] = told_paper(facts)
+    return program.notes["row paper"]
+
+
+def told_paper(facts):
+    """The paper that tells what is known of the rows of a program."""
     if facts.round is None:
         lengths = facts.table()
         table = sorted([(facts.ground.standing(*standing), lengths[standing]) for standing in lengths])

@@ -44,6 +44,14 @@ class Packing:
             code >>= self.bits
         return tuple(entries)
 
+    def entries(self, code):
+        """The list of the entries of a bag of which this is the code."""
+        found = []
+        for _ in range(self.length):
+            found.append(code & self.whole)
+            code >>= self.bits
+        return found
+
     def recoded(self, code, packing):
         """The code of the wide bag of which a code is told by another packing."""
         return code if self.bits == packing.bits else self.packed(packing.unpacked(code))

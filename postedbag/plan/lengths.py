@@ -9,7 +9,7 @@ from postedbag.plan.walks import MOST_TAKES, Ground, Walk
 # So many standings are followed before it is tried to do without.
 FIRST_BUDGET = 300
 # More standings are not followed at all.
-LAST_BUDGET = 400000
+LAST_BUDGET = 150000
 # The entries of gains are taken to be at most this, until there is a greater one.
 FIRST_MOST = 255
 

@@ -4,6 +4,7 @@ from postedbag.base.bags import ANY
 from postedbag.base.linear import tableau_of
 from postedbag.errors import TooMany
 from postedbag.plan.bulks import in_bulks
+from postedbag.plan.joins import homes_of
 from postedbag.plan.possible import possible_ways
 
 MOST_TURNS = 600
@@ -54,13 +55,30 @@ class Tally:
 
     def _counted(self, start):
         """How often each take is made from a start where they are most together, and the number that this is over."""
+        homes = homes_of(self._program, self.counted)
+        # Tasks of which any number can come do not count.
         tasks = [at for at in range(len(self._program)) if not any([take[3][at] == ANY for take in self.counted])]
-        rows = [[int(take[1] == at) - take[3][at] for take in self.counted] for at in tasks]
-        limits = [self._program.begin[at] for at in tasks]
+        pairs = {(homes[mode], homes[end]): True for mode, _, end, _ in self.counted}
+        # Tasks wait in modes that lead to one another; from there they can be carried to modes that do not lead back.
+        carried = [(one, other, at) for one, other in pairs if one != other for at in tasks]
+        rows, limits = [], []
+        for home in sorted(set(homes)):
+            for at in tasks:
+                row = [needed_at(take, homes, home, at) for take in self.counted]
+                rows.append(row + [(int(one == home) - int(other == home)) * (task == at) for one, other, task in carried])
+                limits.append(self._program.begin[at] if home == homes[start] else 0)
         for mode in range(self._program.modes):
-            rows.append([int(take[0] == mode) - int(take[2] == mode) for take in self.counted])
+            rows.append([int(take[0] == mode) - int(take[2] == mode) for take in self.counted] + [0] * len(carried))
             limits.append(int(mode == start))
-        tableau = tableau_of(rows, limits, [1] * len(self.counted))
+        tableau = tableau_of(rows, limits, [1] * len(self.counted) + [0] * len(carried))
         if not tableau.grow(MOST_TURNS) or tableau.can_grow():
             return None, 1
-        return tableau.point(len(self.counted))
+        counts, whole = tableau.point(len(self.counted))
+        return counts, whole
+
+
+def needed_at(take, homes, home, at):
+    """How many more tasks with an index a take needs than it posts, in the modes of a home."""
+    mode, task, end, gain = take
+    needed = int(task == at) if homes[mode] == home else 0
+    return needed - (gain[at] if homes[end] == home else 0)

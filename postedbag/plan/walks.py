@@ -99,15 +99,19 @@ class Walk:
         self.is_over = self.is_over or len(self._trail) - 1 + length > MOST_TAKES
 
     def _is_back(self, standing):
-        """Whether a standing of the row comes back within another one."""
+        """Whether a standing of the row comes back within another one that is more."""
         mode, code = standing
         guard = self._ground.packing.guard
         weight = code % self._ground.packing.whole
-        for (other, less), floor, _, _ in self._trail[::-1]:
-            if floor > weight:
+        at = len(self._trail) - 1
+        while at >= 0:
+            (other, less), floor, _, _ = self._trail[at]
+            # Neither this one nor any one ahead of it is lighter.
+            if floor >= weight:
                 return False
             if other == mode and ((code | guard) - less) & guard == guard:
                 return True
+            at -= 1
         return False
 
     def _close(self, standing):
