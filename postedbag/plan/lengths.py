@@ -2,6 +2,7 @@
 
 from postedbag.errors import TooMany
 from postedbag.know.tables import table_of
+from postedbag.plan.loops import may_loop
 from postedbag.plan.rounds import RoundSearch
 from postedbag.plan.tallies import Tally
 from postedbag.plan.walks import MOST_TAKES, Ground, Walk
@@ -34,7 +35,7 @@ class Facts:
         """Find out whether rows are long, and their length otherwise."""
         if not self._is_settled(walk):
             tally = Tally(self._program, table)
-            if tally.most is None:
+            if tally.most is None and (not tally.counted or may_loop(self._program, tally.counted)):
                 search = RoundSearch(self.ground, self._program.modes)
                 self.round = search.round
             if self.round is None and not walk.is_over:

@@ -4,7 +4,7 @@ from postedbag.base.ceilings import Ceiling
 from postedbag.plan.walks import MOST_TAKES
 
 # So many standings are looked at.
-MOST_LOOKS = 20000
+MOST_LOOKS = 6000
 
 
 class RoundSearch:

@@ -65,7 +65,8 @@ class Tally:
         for home in sorted(set(homes)):
             for at in tasks:
                 row = [needed_at(take, homes, home, at) for take in self.counted]
-                rows.append(row + [(int(one == home) - int(other == home)) * (task == at) for one, other, task in carried])
+                signs = [int(one == home) - int(other == home) for one, other, _ in carried]
+                rows.append(row + [sign if pair[2] == at else 0 for sign, pair in zip(signs, carried)])
                 limits.append(self._program.begin[at] if home == homes[start] else 0)
         for mode in range(self._program.modes):
             rows.append([int(take[0] == mode) - int(take[2] == mode) for take in self.counted] + [0] * len(carried))
