@@ -4,15 +4,26 @@ import doctest
 import pathlib
 import unittest
 
-from postedbag.ask import covers
+from postedbag.ask import covers, needs, piles, places, rows
 from postedbag.base import bags, programs, words
+from postedbag.compare import posts
+from postedbag.compare import programs as compared
+from postedbag.house import project
 from postedbag.know import gains, uses, ways
 from postedbag.plan import plans, tops
 from postedbag.run import runs
-from postedbag.text import texts
+from postedbag.text import shell, texts
 
 HERE = pathlib.Path(__file__).parent
-MODULES = (words, bags, programs, texts, runs, ways, uses, gains, plans, tops, covers)
+MODULES = (
+    words, bags, programs, texts, runs, ways, uses, gains, plans, tops, covers, needs, places, piles, rows, compared,
+    posts, project, shell,
+)
+# The document's examples as they stand one behind the other.
+PARTS = (
+    "programs", "bags", "procedures", "texts", "runs", "ways", "uses", "gains", "plans", "tops", "covers", "needs",
+    "places", "piles", "rows", "compared", "cuts", "project", "shell",
+)
 
 
 def failures_of(text, name, names):
@@ -65,6 +76,44 @@ class ExamplesTest(unittest.TestCase):
 
     def test_covers(self):
         self.check("programs", "uses", "covers")
+
+    def test_needs(self):
+        self.check("programs", "needs")
+
+    def test_places(self):
+        self.check("programs", "places")
+
+    def test_piles(self):
+        self.check("programs", "piles")
+
+    def test_rows(self):
+        self.check("programs", "rows")
+
+    def test_programs_compared(self):
+        self.check("programs", "uses", "compared")
+
+    def test_posts_left_out(self):
+        self.check("programs", "cuts")
+
+    def test_projects(self):
+        self.check("programs", "project")
+
+    def test_shells(self):
+        self.check("programs", "shell")
+
+    def test_all_examples_one_behind_the_other(self):
+        self.check(*PARTS)
+
+    def test_these_are_the_documents_examples(self):
+        document = HERE.parent.parent / "shared" / "DOC.md"
+        if not document.exists():
+            self.skipTest("there is no document beside the project")
+        blocks = document.read_text().split("```\n")[1::2]
+        told = "".join(block for block in blocks if block.startswith(">>> "))
+        for part in PARTS:
+            for line in (HERE / "examples" / f"{part}.txt").read_text().splitlines():
+                self.assertIn(line, told.splitlines())
+        self.assertEqual(sum((HERE / "examples" / f"{part}.txt").read_text().count(">>> ") for part in PARTS), told.count(">>> "))
 
     def test_readme(self):
         text = (HERE.parent / "README.md").read_text()

@@ -23,6 +23,14 @@ FUNCTIONS = {
     "plan/plans.py": ("is_plan", "end_of", "plan_of", "run_of", "joined_plans"),
     "plan/tops.py": ("is_bar",),
     "ask/covers.py": ("covers", "least_takes", "cover_paper", "is_cover_paper"),
+    "ask/needs.py": ("needs", "needs_in", "is_needs"),
+    "ask/places.py": (
+        "is_place", "path_gains", "place_covers", "place_tops", "is_path_uses", "place_paper", "is_place_paper",
+    ),
+    "ask/piles.py": ("most_waiting", "is_bounded", "piles", "can_pile", "pile_plan"),
+    "ask/rows.py": ("are_long", "greatest_length", "row_paper", "is_row_paper", "long_plan"),
+    "compare/programs.py": ("covers_no_more", "covers_same", "extra", "more_paper", "is_more_paper"),
+    "compare/posts.py": ("cuts", "is_cut", "idle_posts", "calm_cuts"),
 }
 CLASSES = {
     "errors.py": {name: () for name in (
@@ -42,6 +50,18 @@ CLASSES = {
         "Run": (
             "__init__", "of", "program", "start", "choices", "situation", "situations", "mode", "bag", "taken",
             "is_between", "__add__", "back", "__len__", "__eq__", "__str__",
+        ),
+    },
+    "house/project.py": {
+        "Project": (
+            "__init__", "program", "promises", "deeds", "promise", "forget", "put", "hush", "restart", "rebegin", "undo",
+            "redo", "twin", "trial", "during", "__getitem__", "__contains__", "__len__", "__eq__", "__str__",
+        ),
+    },
+    "text/shell.py": {
+        "Shell": (
+            "__init__", "replayed", "run", "__call__", "names", "programs", "script", "__contains__", "__len__", "__eq__",
+            "__str__",
         ),
     },
     "plan/tops.py": {
