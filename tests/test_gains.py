@@ -48,6 +48,28 @@ class GainsTest(unittest.TestCase):
                 self.assertEqual(found, tuple(sorted(set(found))))
                 self.assertEqual(list(found), greatest_by_words(found))
 
+    def test_numbers_of_any_size(self):
+        # In each mode but the first one the last procedure calls the first one twice, in the mode ahead.
+        every = (0, 1, 2, 3, 4)
+        stay = ("go", 4, 5, tuple((mode, mode) for mode in every))
+        made = [
+            Procedure(one, 6, *[("call", at, at + 1, other, every) for at in range(4)], stay, ("leave", 5, every))
+            for one, other in ("pq", "qr", "rs", "st")
+        ]
+        down, up = tuple((mode, mode - 1) for mode in every[1:]), tuple((mode, mode + 1) for mode in every[:-1])
+        last = Procedure(
+            "t", 6, ("go", 0, 1, down), ("call", 1, 2, "p", every[:-1]), ("call", 2, 3, "p", every[:-1]), ("go", 3, 4, up),
+            ("leave", 4, every[1:]), ("post", 0, 5, "q", (0,)), ("leave", 5, (0,)),
+        )
+        program = Program(5, (4,), (1, 0, 0, 0, 0), *made, last)
+        for mode in every:
+            many = 4 ** 4 * (2 * 4 ** 4) ** mode
+            way = ("p", 0, mode, mode)
+            self.assertEqual(gains(program, way), ((0, many, 0, 0, 0),))
+            self.assertEqual(posts_of(program, uses_for(program, way, (0, many, 0, 0, 0))), (0, many, 0, 0, 0))
+            self.assertIsNone(uses_for(program, way, (0, many + 1, 0, 0, 0)))
+        self.assertEqual(gains(program, ("t", 3, 3, 4)), ((0, 0, 0, 0, 0),))
+
     def test_finitely_many_runs(self):
         # Each call has one of two ends, and each of these posts something else.
         either = Procedure("either", 2, ("post", 0, 1, "job", (0,)), ("post", 0, 1, "either", (0,)), ("leave", 1, (0,)))

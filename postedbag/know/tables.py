@@ -173,7 +173,8 @@ class GainTable:
             own = self._posted(rule)
             parts = [self._parts[way] for way in behind]
             part.most = max([part.most, 1 + sum([other.most for other in parts])])
-            rows[(own, *[other.alike for other in parts])] = (own, parts)
+            key = (own, *[other.alike for other in parts])
+            rows[key] = (own, parts)
         return rows
 
     def _posted(self, rule):

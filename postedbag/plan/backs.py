@@ -75,7 +75,8 @@ class Backs:
         found = [{} for _ in self._floors]
         for mode, code in latest:
             self._add_ahead(mode, code, found)
-        for mode, floor in enumerate(self._floors):
+        for mode in range(len(self._floors)):
+            floor = self._floors[mode]
             weights = {code: code % self._packing.whole for code in found[mode] if code not in floor.codes}
             # No bag is within one that is less heavy.
             for code in sorted(weights, key=lambda one: weights[one]):

@@ -24,13 +24,15 @@ class Tally:
         # The start of a row of so many takes and its bulks; None if none is found.
         self.row = None
         try:
-            ways = possible_ways(program, table)
             self.counted = [
-                (way[2], program.names.index(way[0]), way[3], gain) for way in ways for gain in table.gains(way)
+                (way[2], program.names.index(way[0]), way[3], gain)
+                for way in possible_ways(program, table)
+                for gain in table.gains(way)
             ]
         except TooMany:
-            return
-        if len(self.counted) <= MOST_TAKES:
+            # What is possible need not come about: it is not told that there are too many gains.
+            self.counted = []
+        if 0 < len(self.counted) <= MOST_TAKES:
             self._count()
 
     def _count(self):

@@ -77,10 +77,10 @@ class Walk:
             other = top[2].pop()
             if other in self.lengths:
                 self._count(self.lengths[other] + 1)
-            elif other in self._place or self._is_back(other):
-                self._close(other)
             elif len(self._trail) > MOST_TAKES:
                 self.is_over = True
+            elif other in self._place or self._is_back(other):
+                self._close(other)
             else:
                 self._enter(other)
                 self.is_cut = len(self.lengths) + len(self._trail) > self._budget

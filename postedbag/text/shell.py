@@ -63,9 +63,6 @@ class Shell:
     def __call__(self, command):
         return self.run(command)
 
-    def __iter__(self):
-        raise TypeError("a shell cannot be iterated over")
-
     def __contains__(self, value):
         return value in list(self._programs)
 
