@@ -4,13 +4,34 @@ from postedbag.base.words import is_integer
 from postedbag.know.rules import behind_of, has_rule, posted_of, way_of
 
 
-def are_counts(program, value):
-    """Whether the value is a dict from rules to integers from 1 on."""
+def step_of(program, rule):
+    """The way of a rule, the ways behind it, and the index of the task that it posts or None; None if it is no rule."""
+    steps = program.lore.setdefault("steps", {})
+    # True and False are equal to numbers, but no parts of rules.
+    if rule in steps and not any([part is True or part is False for part in rule]):
+        return steps[rule]
+    if not has_rule(program, rule):
+        return None
+    name = posted_of(program, rule)
+    task = None if name is None else program.names.index(name)
+    steps[rule] = (way_of(program, rule), behind_of(program, rule), task)
+    return steps[rule]
+
+
+def steps_in(program, value):
+    """The list of the steps that a dict from rules to integers from 1 on tells, or None if the value is no such dict.
+
+    Each has its own way, the ways behind it, the index of the task that it posts or None, and its number.
+    """
     if not isinstance(value, dict):
-        return False
-    if not all([has_rule(program, rule) for rule in value]):
-        return False
-    return are_numbers(list(value.values()))
+        return None
+    steps = []
+    for rule, many in value.items():
+        step = step_of(program, rule)
+        if step is None or not is_integer(many) or many < 1:
+            return None
+        steps.append((*step, many))
+    return steps
 
 
 def are_numbers(values):
@@ -20,9 +41,24 @@ def are_numbers(values):
 
 def are_right(program, way, value):
     """Whether the value is right uses of a way."""
-    if not are_counts(program, value):
-        return False
-    return are_one_way(way, [(way_of(program, rule), behind_of(program, rule), value[rule]) for rule in value])
+    return right_posts(program, way, value) is not None
+
+
+def right_posts(program, way, value):
+    """The list of how many tasks of each procedure are posted by right uses of a way, or None if the value is none."""
+    steps = steps_in(program, value)
+    if steps is None or not are_one_way(way, [(own, behind, many) for own, behind, _, many in steps]):
+        return None
+    return posts_in(program, steps)
+
+
+def posts_in(program, steps):
+    """The list of how many tasks of each procedure some steps post."""
+    posts = [0] * len(program)
+    for _, _, task, many in steps:
+        if task is not None:
+            posts[task] += many
+    return posts
 
 
 def are_one_way(way, steps):

@@ -3,7 +3,7 @@
 from postedbag.base.checks import check_bag, check_program
 from postedbag.errors import InvalidRun, InvalidUses, TooMany
 from postedbag.know.builds import built
-from postedbag.know.counts import are_counts, are_right, bag_of
+from postedbag.know.counts import are_right, posts_in, steps_in
 from postedbag.know.grammar import in_order
 from postedbag.know.orders import choices_with, uses_with
 from postedbag.know.tables import table_of
@@ -21,9 +21,10 @@ def is_uses(program, way, value):
 def posts_of(program, uses):
     """The bag of the posts of a dict from rules to numbers."""
     check_program(program)
-    if not are_counts(program, uses):
+    steps = steps_in(program, uses)
+    if steps is None:
         raise InvalidUses("a dict from rules to integers from 1 on is needed")
-    return bag_of(program, uses)
+    return tuple(posts_in(program, steps))
 
 
 def least_steps(program, way):

@@ -2,7 +2,7 @@
 
 from postedbag.base.bags import changed, summed
 from postedbag.base.checks import is_mode, is_start
-from postedbag.know.counts import are_right, bag_of
+from postedbag.know.counts import right_posts
 from postedbag.know.grammar import in_order
 
 
@@ -14,9 +14,8 @@ def behind_take(program, mode, bag, value):
     if name not in program or not is_mode(program, end):
         return None
     at = program.names.index(name)
-    if bag[at] == 0 or not are_right(program, (name, 0, mode, end), uses):
-        return None
-    return (end, summed(changed(bag, at, -1), bag_of(program, uses)))
+    posts = right_posts(program, (name, 0, mode, end), uses) if bag[at] != 0 else None
+    return None if posts is None else (end, summed(changed(bag, at, -1), posts))
 
 
 def end_behind(program, value):
