@@ -53,31 +53,38 @@ def table_in(program, mode, bag, takes):
 def is_needs(program, mode, bag, value):
     """Whether the value is a dict with the needs of a mode and a bag."""
     check_question(program, mode, bag)
-    if not are_needs_by_form(program, value) or not has_within(value[mode], bag):
+    if not are_tables_by_form(program, value) or not has_within(value[mode], bag):
         return False
-    table, _ = needed_table(program, mode, bag)
+    try:
+        table, _ = needed_table(program, mode, bag)
+    except TooMany:
+        if not are_least(value):
+            return False
+        raise
     if table is not None:
         return value == table
-    if not is_closed(program, table_of(program), value):
+    if not are_least(value) or not is_closed(program, table_of(program), value):
         return False
     return all([leads_to(program, other, less, (mode, bag)) for other in value for less in value[other]])
 
 
-def are_needs_by_form(program, value):
-    """Whether the value is a dict from all modes to ascending tuples of bags of which none is within another one."""
+def are_tables_by_form(program, value):
+    """Whether the value is a dict from all modes to tuples of bags."""
     if not isinstance(value, dict) or len(value) != program.modes:
         return False
     if not all([is_mode(program, mode) for mode in value]):
         return False
-    return all([are_least(program, bags) for bags in value.values()])
+    return all([isinstance(bags, tuple) and all([is_bag_of(program, bag) for bag in bags]) for bags in value.values()])
 
 
-def are_least(program, bags):
-    """Whether these are an ascending tuple of bags of which none is within another one."""
-    if not isinstance(bags, tuple) or not all([is_bag_of(program, bag) for bag in bags]) or not ascends(bags):
+def are_least(table):
+    """Whether the bags of each mode ascend, and none of them is within another one."""
+    if not all([ascends(bags) for bags in table.values()]):
         return False
+    # A bag that is within another one of ascending ones stands ahead of it.
     return not any([
         fits(bag, other)
+        for bags in table.values()
         for at, bag in enumerate(bags)
         for other in bags[at + 1:]
     ])
