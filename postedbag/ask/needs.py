@@ -2,6 +2,7 @@
 
 from postedbag.base.bags import fits
 from postedbag.base.checks import check_question, is_bag_of, is_mode
+from postedbag.base.notes import noted
 from postedbag.base.words import ascends, is_index
 from postedbag.errors import InvalidNumber, TooMany
 from postedbag.know.tables import table_of
@@ -31,10 +32,8 @@ def needs_in(program, mode, bag, takes):
     check_question(program, mode, bag)
     if not is_index(takes, MOST_TAKES + 1):
         raise InvalidNumber(takes)
-    kept = program.notes.setdefault("needs in", {})
+    kept = noted(program.notes, "needs in", MOST_KEPT)
     if (mode, bag, takes) not in kept:
-        if len(kept) >= MOST_KEPT:
-            kept.clear()
         kept[mode, bag, takes] = table_in(program, mode, bag, takes)
     table = kept[mode, bag, takes]
     return {other: table[other] for other in table}

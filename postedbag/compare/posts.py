@@ -1,6 +1,7 @@
 """Posts left out: without which of them something is not covered any more."""
 
 from postedbag.base.checks import check_program, check_question
+from postedbag.base.notes import noted
 from postedbag.errors import TooMany
 from postedbag.plan.covered import covered_of
 from postedbag.plan.lengths import facts_of
@@ -15,10 +16,8 @@ def cuts(program, mode, bag):
     """The ascending tuple of the least sets of posts without which a mode and a bag are not covered."""
     check_question(program, mode, bag)
     check_posts(program)
-    kept = program.notes.setdefault("cuts", {})
+    kept = noted(program.notes, "cuts", MOST_KEPT)
     if (mode, bag) not in kept:
-        if len(kept) >= MOST_KEPT:
-            kept.clear()
         kept[mode, bag] = least_sets(program, lambda other: not covered_of(other).covers(mode, bag))
     return kept[mode, bag]
 
@@ -57,11 +56,9 @@ def check_posts(program):
 def hushed(program, sites):
     """The program without some posts; the last ones that were asked for are kept with it."""
     made = program.without_posts(sites)
-    kept = program.notes.setdefault("hushed", {})
+    kept = noted(program.notes, "hushed", MOST_HUSHED)
     names = tuple(sorted(set(sites)))
     if names not in kept:
-        if len(kept) >= MOST_HUSHED:
-            kept.clear()
         kept[names] = made
     return kept[names]
 

@@ -1,5 +1,6 @@
 """Roads: the gains of the paths to a place."""
 
+from postedbag.base.notes import noted
 from postedbag.errors import TooMany
 from postedbag.know.grammar import Grammar
 from postedbag.know.paths import path_rows
@@ -44,9 +45,7 @@ class PathTable(GainTable):
 
 def roads_to(program, place):
     """The gains of the paths to a place, which are kept with the program."""
-    kept = program.lore.setdefault("roads", {})
+    kept = noted(program.lore, "roads", MOST_KEPT)
     if place not in kept:
-        if len(kept) >= MOST_KEPT:
-            kept.clear()
         kept[place] = PathTable(program, place, table_of(program))
     return kept[place]

@@ -1,6 +1,7 @@
 """Needed bags: the needs of a mode and a bag, as far as they can be worked out, and what leads to them."""
 
 from postedbag.base.bags import ANY, fits
+from postedbag.base.notes import noted
 from postedbag.know.tables import table_of
 from postedbag.plan.backs import Backs
 from postedbag.plan.bounds import Bounds
@@ -20,10 +21,8 @@ MOST_KEPT = 100
 
 def needed_table(program, mode, bag):
     """The needs as a dict from all modes to ascending tuples, or None; and the limit that is passed otherwise."""
-    kept = program.notes.setdefault("needs", {})
+    kept = noted(program.notes, "needs", MOST_KEPT)
     if (mode, bag) not in kept:
-        if len(kept) >= MOST_KEPT:
-            kept.clear()
         kept[mode, bag] = worked_out(program, mode, bag)
     return kept[mode, bag]
 

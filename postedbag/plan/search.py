@@ -5,6 +5,7 @@ from postedbag.plan.bulks import behind_bulk, in_bulks
 from postedbag.plan.joins import are_joined
 from postedbag.plan.queues import Queues
 from postedbag.base.bags import ANY, changed, fits, summed
+from postedbag.base.notes import noted
 from postedbag.base.roofs import Roof, greatest_of
 from postedbag.errors import TooMany
 from postedbag.plan.possible import possible_ways, reduced, task_ways
@@ -227,10 +228,8 @@ def least_row(program, table, covered, mode, bag):
 
     They are told by a way, a gain, and how often the take is made. TooMany if there are too many takes.
     """
-    kept = program.notes.setdefault("rows", {})
+    kept = noted(program.notes, "rows", MOST_KEPT)
     if (mode, bag) not in kept:
-        if len(kept) >= MOST_KEPT:
-            kept.clear()
         kept[mode, bag] = found_row(program, table, covered, mode, bag)
     if kept[mode, bag] is None:
         raise TooMany(MOST_TAKES)

@@ -1,6 +1,7 @@
 """Spots: what can wait while a task is at a place."""
 
 from postedbag.base.bags import ANY, changed, fits
+from postedbag.base.notes import noted
 from postedbag.base.packs import Packing
 from postedbag.errors import TooMany
 from postedbag.know.roads import roads_to
@@ -13,10 +14,8 @@ MOST_KEPT = 200
 
 def bags_at(program, place):
     """The ascending tuple of the greatest wide bags that can wait while a task is at a place."""
-    kept = program.notes.setdefault("bags", {})
+    kept = noted(program.notes, "bags", MOST_KEPT)
     if place not in kept:
-        if len(kept) >= MOST_KEPT:
-            kept.clear()
         kept[place] = worked_out(program, place)
     if kept[place] is None:
         raise TooMany(MOST_BAGS)
