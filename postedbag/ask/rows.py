@@ -145,19 +145,28 @@ def shows_short(program, table):
     gains = table_of(program)
     beyond = None
     for mode, bag in ranks:
-        for at, name in enumerate(program.names):
-            for end in range(program.modes) if bag[at] != 0 else ():
-                rest = changed(bag, at, -1)
-                try:
-                    found = [(end, summed(rest, gain)) for gain in gains.gains_over((name, 0, mode, end), bag)]
-                except TooMany as error:
-                    beyond = error.limit
-                    continue
-                if not all([is_ranked_below(ranks, behind, ranks[mode, bag]) for behind in found]):
-                    return False
+        for way, at in ways_from(program, mode, bag):
+            rest = changed(bag, at, -1)
+            try:
+                found = [(way[3], summed(rest, gain)) for gain in gains.gains_over(way, bag)]
+            except TooMany as error:
+                beyond = error.limit
+                continue
+            if not all([is_ranked_below(ranks, behind, ranks[mode, bag]) for behind in found]):
+                return False
     if beyond is not None:
         raise TooMany(beyond)
     return True
+
+
+def ways_from(program, mode, bag):
+    """The list of the ways of the tasks that are in a bag, in a mode, with the indices of the tasks."""
+    return [
+        ((name, 0, mode, end), at)
+        for at, name in enumerate(program.names)
+        if bag[at] != 0
+        for end in range(program.modes)
+    ]
 
 
 def is_ranked_below(ranks, standing, rank):
