@@ -357,17 +357,6 @@ class TrialTest(unittest.TestCase):
         for run in (change, go_back, go_on, fail, within, leave, lambda project: None):
             self.check(run)
 
-    def test_one_block_within_itself(self):
-        def run(project):
-            trial = project.trial()
-            with trial:
-                project.undo()
-                inner = state_of(project)
-                with trial:
-                    project.undo()
-                self.assertEqual(state_of(project), inner)
-        self.check(run)
-
     def test_errors_go_on(self):
         project = Project(DOOR)
         with self.assertRaises(ZeroDivisionError):

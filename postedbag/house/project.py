@@ -25,24 +25,15 @@ class Trial:
 
     def __init__(self, project):
         self._project = project
-        self._saved = None
+        self._saved = project.state
 
     def __enter__(self):
-        self._saved = Saved(self._project.state, self._saved)
+        self._saved = self._project.state
         return self._project
 
     def __exit__(self, kind, value, trace):
         project = self._project
-        project.state = self._saved.state
-        self._saved = self._saved.ahead
-
-
-class Saved:
-    """A state of a project, and what was saved ahead of it."""
-
-    def __init__(self, state, ahead):
-        self.state = state
-        self.ahead = ahead
+        project.state = self._saved
 
 
 class Project:
