@@ -419,6 +419,22 @@ class LimitsTest(unittest.TestCase):
             self.check(400, call, program, ("t", 2, 0))
         self.assertEqual(path_gains(MANY, "p", 0, ("p", 1, 0)), ((0, 1, 0, 0, 0), (1, 0, 0, 0, 0)))
 
+    def test_paths_that_lead_through_others_with_more_gains(self):
+        # The path of t has 20 times 20 bags, and then one more choice; the one of s has any number of all tasks.
+        inner = Procedure("t", 5, ("call", 0, 1, "r", (0,)), ("call", 1, 2, "p", (0,)), ("call", 2, 3, "p", (0,)),
+                          ("post", 3, 4, "p", (0,)), ("post", 3, 4, "q", (0,)))
+        outer = Procedure("s", 2, *[("post", 0, 0, name, (0,)) for name in "pqrs"], ("call", 0, 1, "t", (0,)))
+        program = MANY.with_procedure(inner).with_procedure(outer)
+        self.assertEqual(len(path_gains(program, "t", 0, ("t", 3, 0))), 400)
+        place = ("t", 4, 0)
+        for names in ("sts", "tst"):
+            again = Program.of(1, (0,), program.begin, program.procedures)
+            for name in names:
+                if name == "t":
+                    self.check(400, path_gains, again, "t", 0, place)
+                else:
+                    self.assertEqual(path_gains(again, "s", 0, place), ((ANY, ANY, ANY, ANY, 0),))
+
     def test_tops_of_places(self):
         # There are not more than 400 tops, but at the end of the task each one goes with two bags.
         first = Procedure("a", 2, ("post", 0, 1, "b", (0,)), ("leave", 1, (0,)))

@@ -17,20 +17,30 @@ class PathTable(GainTable):
 
     def __init__(self, program, place, base):
         grammar = Grammar(program, path_rows(program, place), base.grammar)
-        GainTable.__init__(self, program, grammar, MOST_THROUGH)
+        GainTable.__init__(self, program, grammar)
         self._base = base
+        # The paths that have too many gains themselves; others can still lead through them.
+        self._many = {}
 
     def path_gains(self, path):
         """The ascending tuple of the gains of a path; TooMany if there are too many."""
-        found = self.gains(path)
-        if len(found) > MOST_GAINS:
+        found = () if path in self._many else self.gains(path)
+        if path in self._many or len(found) > MOST_GAINS:
             raise TooMany(MOST_GAINS)
         return found
 
-    def _part_of(self, ways):
+    def _limit_of(self, way, ways):
+        return MOST_GAINS if way in ways else MOST_THROUGH
+
+    def _give_up(self, way, ways):
+        if way not in ways:
+            super()._give_up(way, ways)
+        self._many.update({own: True for own in ways})
+
+    def _part_of(self, ways, most):
         """The part of some paths, or of some ways as the table of the ways has it."""
         if not self._base.grammar.is_good(ways[0]):
-            return super()._part_of(ways)
+            return super()._part_of(ways, most)
         known, packing = self._base.part(ways[0]), self._base.packing
         part = Part(len(self._parts), ways, known.ends, 0, 0)
         part.most = known.most

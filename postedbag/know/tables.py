@@ -37,17 +37,15 @@ class Part:
 def table_of(program):
     """The gains of the ways of a program, which are kept with it."""
     if "table" not in program.lore:
-        program.lore["table"] = GainTable(program, Grammar(program, way_rows(program), None), MOST_GAINS)
+        program.lore["table"] = GainTable(program, Grammar(program, way_rows(program), None))
     return program.lore["table"]
 
 
 class GainTable:
     """The gains of the ways of a program, worked out when they are asked for."""
 
-    def __init__(self, program, grammar, most):
+    def __init__(self, program, grammar):
         self.grammar = grammar
-        # A way can have so many gains at most.
-        self._most = most
         self.packing = Packing(len(program), FIRST_MOST)
         self._parts = {}
         self._beyond = {}
@@ -98,16 +96,24 @@ class GainTable:
     def _settle(self, way):
         """Work out the parts of a good way and of all that it leads to."""
         for ways in parts_from(self.grammar, way, self._parts):
-            part = self._part_of(ways)
+            part = self._part_of(ways, self._limit_of(way, ways))
             if part is None:
-                for own in [way, *ways]:
-                    self._beyond[own] = True
+                self._give_up(way, ways)
                 raise TooMany(MOST_GAINS)
             for own in ways:
                 self._parts[own] = part
 
-    def _part_of(self, ways):
-        """The part of some ways, or None if it has too many gains, or leads to such a one."""
+    def _limit_of(self, way, ways):
+        """How many gains some ways, to which a way leads that is asked for, can have at most."""
+        return MOST_GAINS
+
+    def _give_up(self, way, ways):
+        """Note that some ways have too many gains, and so a way that leads to them."""
+        for own in [way, *ways]:
+            self._beyond[own] = True
+
+    def _part_of(self, ways, most):
+        """The part of some ways, or None if it has more than the most gains, or leads to one that has too many."""
         inner = {way: True for way in ways}
         rows = [(way, rule, behind) for way in ways for rule, behind in self.grammar.rules(way)]
         if self._beyond and any([own in self._beyond for row in rows for own in (row[0], *row[2])]):
@@ -122,7 +128,7 @@ class GainTable:
                     pumped |= self._posts(rule, behind[:at] + behind[at + 1:], inner, reached)
         ends = [row for row in rows if not any([own in inner for own in row[2]])]
         part = Part(len(self._parts), ways, ends, reached, pumped)
-        return part if self._has_gains(part) else None
+        return part if self._has_gains(part, most) else None
 
     def _posts(self, rule, behind, inner, own):
         """A code with ANY for what a rule posts, or some ways behind it, of which inner ones post their own."""
@@ -132,12 +138,12 @@ class GainTable:
             code |= own if other in inner else self._parts[other].reached
         return code
 
-    def _has_gains(self, part):
-        """Put the gains into a part, and tell whether they are not too many."""
+    def _has_gains(self, part, most):
+        """Put the gains into a part, and tell whether they are not more than the most."""
         if part.pumped == part.reached:
             part.codes = [part.pumped]
         else:
-            codes = self._sum_of(part)
+            codes = self._sum_of(part, most)
             if codes is None:
                 return False
             part.codes = [code | part.pumped for code in codes]
@@ -148,19 +154,19 @@ class GainTable:
         """A number for some gains, the same one for the same gains."""
         return self._numbers.setdefault(tuple(sorted(codes)), len(self._numbers))
 
-    def _sum_of(self, part):
-        """The list of the codes of the gains of a part but for what is pumped, or None if there are too many."""
+    def _sum_of(self, part, most):
+        """The codes of the gains of a part but for what is pumped, or None if there are more than the most."""
         rows = self._rows_of(part)
         if part.most > self.packing.most:
             self._widen(part)
             rows = self._rows_of(part)
-        key = (part.pumped, *rows)
+        key = (most, part.pumped, *rows)
         if key not in self._sums:
             keep = self._kept_of(part)
             sums = [(own & keep, [self._cut(other, keep) for other in parts]) for own, parts in rows.values()]
-            is_seen = are_beyond(self.packing, sums, self._most)
+            is_seen = are_beyond(self.packing, sums, most)
             found = [] if is_seen else summed_all(self.packing, sums)
-            self._sums[key] = None if is_seen else self.packing.highest(found, self._most)
+            self._sums[key] = None if is_seen else self.packing.highest(found, most)
         return self._sums[key]
 
     def _rows_of(self, part):
@@ -190,7 +196,7 @@ class GainTable:
         """The codes of the gains of a part, without those entries that are not kept."""
         if part.reached & ~keep == 0:
             return part.codes
-        return self.packing.highest([code & keep for code in part.codes], self._most)
+        return self.packing.highest([code & keep for code in part.codes], len(part.codes))
 
     def _widen(self, part):
         """Take more bits for each entry, for a part that is being worked out needs them."""
