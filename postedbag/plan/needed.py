@@ -6,6 +6,7 @@ from postedbag.know.tables import table_of
 from postedbag.plan.backs import Backs
 from postedbag.plan.bounds import Bounds
 from postedbag.plan.leads import is_led
+from postedbag.plan.possible import reduced
 
 MOST_LEVELS = 1000
 # When so many bags have been looked at it is tried to do with fewer; more than the last are not looked at.
@@ -41,7 +42,7 @@ def worked_out(program, mode, bag):
 
 def worked_out_otherwise(program, mode, bag):
     """The needs, and a limit if they cannot be worked out, where they are many for rows of some numbers of takes."""
-    takes = all_takes(program, mode, bag)
+    takes = reduced(all_takes(program, mode, bag))
     bounds = Bounds(program, takes, (False,) * len(program), (mode, bag), max(bag) + MOST_LEVELS)
     if any([is_beyond(bounds, other, less) for other, less in far_bags(program, mode, bag)]):
         return None, MOST_LEVELS
@@ -117,10 +118,10 @@ def bags_near(program, bag):
 
 def is_closed(program, table, found):
     """Whether a table has a bag within what each take ahead of one of its bags needs."""
-    for mode in found:
+    for mode in [other for other in found if found[other]]:
         for at, name in enumerate(program.names):
             for ahead in range(program.modes):
-                for gain in table.gains((name, 0, ahead, mode)) if found[mode] else ():
+                for gain in table.gains((name, 0, ahead, mode)):
                     if not all([has_within(found[ahead], needed_ahead(bag, gain, at)) for bag in found[mode]]):
                         return False
     return True
