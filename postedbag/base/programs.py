@@ -152,13 +152,17 @@ class Program:
 
     def without_posts(self, sites):
         """The program with each post at one of the sites as a go that keeps its modes."""
+        self.check_posts(sites)
+        procedures = tuple([hushed_procedure(procedure, sites) for procedure in self._procedures])
+        return self._remade(self._starts, self._begin, procedures)
+
+    def check_posts(self, sites):
+        """Raise UnknownSite unless it is a tuple of sites of posts."""
         if not isinstance(sites, tuple):
             raise UnknownSite(sites)
         for site in sites:
             if self.move(site)[0] != "post":
                 raise UnknownSite(site)
-        procedures = tuple([hushed_procedure(procedure, sites) for procedure in self._procedures])
-        return self._remade(self._starts, self._begin, procedures)
 
     def renamed(self, names):
         """The program with new names for those procedures that a dict has as its keys."""

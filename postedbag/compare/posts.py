@@ -15,7 +15,7 @@ MOST_KEPT = 100
 def cuts(program, mode, bag):
     """The ascending tuple of the least sets of posts without which a mode and a bag are not covered."""
     check_question(program, mode, bag)
-    check_posts(program)
+    check_number(program)
     kept = noted(program.notes, "cuts", MOST_KEPT)
     if (mode, bag) not in kept:
         kept[mode, bag] = least_sets(program, lambda other: not covered_of(other).covers(mode, bag))
@@ -41,13 +41,13 @@ def idle_posts(program):
 def calm_cuts(program):
     """The ascending tuple of the least sets of posts without which rows are not long."""
     check_program(program)
-    check_posts(program)
+    check_number(program)
     if "calm" not in program.notes:
         program.notes["calm"] = least_sets(program, lambda other: facts_of(other).round is None)
     return program.notes["calm"]
 
 
-def check_posts(program):
+def check_number(program):
     """Raise TooMany if the program has too many posts for all sets of them to be tried."""
     if len(program.posts) > MOST_POSTS:
         raise TooMany(MOST_POSTS)
@@ -55,12 +55,12 @@ def check_posts(program):
 
 def hushed(program, sites):
     """The program without some posts; the last ones that were asked for are kept with it."""
-    made = program.without_posts(sites)
+    program.check_posts(sites)
     kept = noted(program.notes, "hushed", MOST_HUSHED)
-    names = tuple(sorted(set(sites)))
-    if names not in kept:
-        kept[names] = made
-    return kept[names]
+    some = tuple(sorted(set(sites)))
+    if some not in kept:
+        kept[some] = program.without_posts(some)
+    return kept[some]
 
 
 def least_sets(program, holds):
