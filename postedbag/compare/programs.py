@@ -60,13 +60,16 @@ def is_more_paper(one, other, value):
 
 def least_beyond(wide, others):
     """The least bags within a wide bag that are within none of others, or some of them if they are many."""
-    bags = ((0,) * len(wide),)
+    bags = [(0,) * len(wide)]
     for other in others:
-        more = []
-        for bag in bags:
-            more.extend(raised_over(bag, other) if fits(bag, other) else [bag])
-        bags = least(tuple([bag for bag in more if fits(bag, wide)]))[:MOST_GOALS]
-    return bags
+        inner = [bag for bag in bags if fits(bag, other)]
+        if inner:
+            outer = [bag for bag in bags if not fits(bag, other)]
+            raised = [one for bag in inner for one in raised_over(bag, other) if fits(one, wide)]
+            # What is outer stays least, for no inner bag is within it.
+            fresh = [bag for bag in least(tuple(raised)) if not any([fits(less, bag) for less in outer])]
+            bags = sorted(outer + fresh)[:MOST_GOALS]
+    return tuple(bags)
 
 
 def raised_over(bag, other):
