@@ -81,7 +81,7 @@ class CeilingTest(unittest.TestCase):
                 covered = any(within(bag, other) for other in held)
                 self.assertIs(ceiling.covers(code, code % packing.whole), covered)
                 if not covered:
-                    ceiling.put(code, code % packing.whole)
+                    ceiling.put(code, code % packing.whole, any(within(other, bag) for other in held))
                     held = [other for other in held if not within(other, bag)] + [bag]
                 self.assertEqual(sorted(packing.unpacked(one) for one in ceiling.codes), sorted(held))
                 self.assertTrue(all(ceiling.holds(packing.packed(other)) for other in held))

@@ -25,11 +25,11 @@ class Ceiling:
             return True
         return weight < self._heaviest and is_below(code, self._roof, self._packing.guard)
 
-    def put(self, code, weight):
-        """Hold a bag, which is within none that is held, and no longer those within it."""
+    def put(self, code, weight, is_above):
+        """Hold a bag, which is within none that is held, and no longer those within it, if there can be some."""
         guard = self._packing.guard
         top = code | guard
-        if self.codes and weight > self._lightest:
+        if is_above and self.codes and weight > self._lightest:
             below = [other for other in self.codes if (top - other) & guard == guard]
             for other in below:
                 del self.codes[other]

@@ -4,6 +4,7 @@ from heapq import heappop, heappush
 
 from postedbag.base.bags import ANY
 from postedbag.base.ceilings import Ceiling
+from postedbag.base.floors import Floor
 from postedbag.base.packs import Packing
 from postedbag.errors import TooMany
 from postedbag.plan.proofs import are_flat, are_shown
@@ -34,6 +35,8 @@ class Climb:
         self.packing = Packing(len(program), max([most, *program.begin]) << GROWTH_BITS)
         self._moves = Steps(program, table, self.packing, most)
         self.ceilings = [Ceiling(self.packing) for _ in range(program.modes)]
+        # The least bags of all that were come to: where none of them is within a bag, nothing is less than this one.
+        self._floors = [Floor(self.packing) for _ in range(program.modes)]
         # For each standing that was come to its mode, its code, the least weight of it and of those ahead, and the
         # index of the one ahead.
         self._steps = []
@@ -104,8 +107,9 @@ class Climb:
         weight = code % self.packing.whole
         is_covered = ceiling.covers(code, weight)
         floor = weight if ahead is None else min(weight, self._steps[ahead][2])
+        is_above = self._floors[mode].covers(code, weight)
         # What is held already, but was come to otherwise, can be more than a standing not far ahead.
-        if floor < weight:
+        if is_above and floor < weight:
             lifted = self._lifted(mode, code, ahead, MOST_AHEAD if is_covered else len(self._steps))
             if lifted != code:
                 code, weight = lifted, lifted % self.packing.whole
@@ -118,7 +122,9 @@ class Climb:
         widest = ((rank + 1) << self.packing.bits) - (weight >> self.packing.shift)
         heappush(self._widest, (widest << INDEX_BITS) + at)
         self._steps.append((mode, code, floor, ahead))
-        ceiling.put(code, weight)
+        ceiling.put(code, weight, is_above)
+        if not is_above:
+            self._floors[mode].put(code, weight)
         if at >= self._look and self._size() > MOST_TOPS and self._is_endless():
             raise TooMany(MOST_TOPS)
 

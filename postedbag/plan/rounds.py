@@ -37,7 +37,7 @@ class RoundSearch:
             return None
         floor = weight if ahead is None else min(weight, self._met[ahead][1])
         many = 0 if ahead is None else self._met[ahead][3] + 1
-        self._ceilings[mode].put(code, weight)
+        self._ceilings[mode].put(code, weight, True)
         self._index[standing] = len(self._met)
         self._met.append((standing, floor, ahead, many, []))
         return self._index[standing]
