@@ -4,7 +4,6 @@ from postedbag.base.bags import ANY
 from postedbag.base.floors import Floor
 from postedbag.base.packs import Packing
 
-
 # What is taken in has at most so many tasks more of a procedure than the bag has in all.
 SPARE = 9
 # So many bags are kept at least before those are dropped that do not count any more.
@@ -29,10 +28,6 @@ class Backs:
         # How many bags there can be before those are dropped that do not count any more.
         self._most_bags = [FEW_BAGS] * program.modes
         self._put(mode, self._packing.packed(bag))
-
-    def size(self):
-        """How many needs there are by now, of all modes together."""
-        return sum([len(floor.least()) for floor in self._floors])
 
     def is_done(self):
         """Whether rows of more takes need no less."""
