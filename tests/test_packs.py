@@ -7,6 +7,7 @@ import unittest
 from postedbag.base.bags import ANY, added, greatest, least, within
 from postedbag.base.ceilings import Ceiling
 from postedbag.base.floors import MOST_LATE, Floor, Shelf
+from postedbag.base.lids import Lid
 from postedbag.base.packs import Packing, is_below
 
 
@@ -85,6 +86,17 @@ class CeilingTest(unittest.TestCase):
                     held = [other for other in held if not within(other, bag)] + [bag]
                 self.assertEqual(sorted(packing.unpacked(one) for one in ceiling.codes), sorted(held))
                 self.assertTrue(all(ceiling.holds(packing.packed(other)) for other in held))
+
+
+class LidTest(unittest.TestCase):
+    def test_as_with_bags(self):
+        source = random.Random(7)
+        for many in (0, 1, 6, 40):
+            packing = Packing(3, 9)
+            held = some_bags(source, 3, 9, many)
+            lid = Lid(packing, [packing.packed(bag) for bag in held])
+            for bag in some_bags(source, 3, 9, 300) + held:
+                self.assertIs(lid.covers(packing.packed(bag)), any(within(bag, other) for other in held))
 
 
 class FloorTest(unittest.TestCase):

@@ -137,15 +137,6 @@ class Roof:
         return (len(self._blocks) - 1) * BLOCK + len(self._blocks[-1].bags) - 1
 
 
-def roof_of(bags):
-    """The roof of those bags that are within no other ones."""
-    roof = Roof()
-    for bag in bags:
-        if not roof.covers(bag):
-            roof.put(bag)
-    return roof
-
-
 def greatest_of(bags, most):
     """The list of those bags that are within no other ones, or None if there are more than the most."""
     roof = Roof()

@@ -2,10 +2,12 @@
 
 from postedbag.base.bags import ANY, fits, least
 from postedbag.base.checks import check_program, is_bag_of, is_mode
-from postedbag.errors import InvalidOperation
+from postedbag.base.roofs import weight
+from postedbag.errors import InvalidOperation, TooMany
 from postedbag.know.tables import table_of
 from postedbag.plan.covered import covered_of
 from postedbag.plan.rows import filled, row_to_one
+from postedbag.plan.search import MOST_TAKES
 from postedbag.plan.takes import end_behind
 from postedbag.plan.tops import are_standings, is_bar, is_below
 
@@ -36,12 +38,25 @@ def more_paper(one, other):
     tops = extra(one, other)
     if not tops:
         return None
-    bars = covered_of(other).summits
-    found = [(top[0], own) for top in tops for own in least_beyond(top[1], [low for k, low in bars if k == top[0]])]
-    goals = sorted(found, key=lambda goal: sum(goal[1]))
-    at, start, row = row_to_one(one, goals[:MOST_GOALS])
-    mode, bag = goals[at]
-    return (mode, bag, start, filled(one, table_of(one), row, bag), bars)
+    mode, bag, start, row = row_beyond(one, tops, covered_of(other).summits)
+    return (mode, bag, start, filled(one, table_of(one), row, bag), covered_of(other).summits)
+
+
+def row_beyond(one, tops, bars):
+    """A mode and a bag within one of some tops and within no bar, and the start and the takes of a row to them.
+
+    TooMany if such rows have too many takes.
+    """
+    left = MOST_GOALS
+    for mode, wide in sorted(tops, key=lambda top: weight(top[1])):
+        bags = sorted(least_beyond(wide, [low for other, low in bars if other == mode]), key=sum)[:left]
+        left -= len(bags)
+        try:
+            at, start, row = row_to_one(one, [(mode, bag) for bag in bags])
+        except TooMany:
+            continue
+        return mode, bags[at], start, row
+    raise TooMany(MOST_TAKES)
 
 
 def is_more_paper(one, other, value):

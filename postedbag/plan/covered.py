@@ -1,6 +1,6 @@
 """What is covered: the tops of a program, kept with it."""
 
-from postedbag.base.packs import is_below
+from postedbag.base.lids import Lid
 from postedbag.errors import TooMany
 from postedbag.know.tables import table_of
 from postedbag.plan.climb import MOST_TOPS, Climb
@@ -15,14 +15,13 @@ class Covered:
     def __init__(self, climb):
         self.summits = climb.tops()
         self._packing = climb.packing
-        self._roofs = [[code | climb.packing.guard for code in ceiling.codes] for ceiling in climb.ceilings]
+        self._lids = [Lid(climb.packing, list(ceiling.codes)) for ceiling in climb.ceilings]
 
     def covers(self, mode, bag):
         """Whether a mode and a bag are covered."""
         packing = self._packing
         # Each finite entry of a top is less than the most.
-        code = packing.packed([min(entry, packing.most) for entry in bag])
-        return is_below(code, self._roofs[mode], packing.guard)
+        return self._lids[mode].covers(packing.packed([min(entry, packing.most) for entry in bag]))
 
 
 def covered_of(program):

@@ -1,11 +1,10 @@
 """Bars and tops: what everything stays within."""
 
-from postedbag.base.bags import changed, fits, summed
+from postedbag.base.bags import fits
 from postedbag.base.checks import check_bag, check_mode, check_program, is_standing
-from postedbag.base.roofs import roof_of
 from postedbag.base.words import ascends
-from postedbag.errors import InvalidOperation, TooMany
-from postedbag.know.tables import MOST_GAINS, table_of
+from postedbag.errors import InvalidOperation
+from postedbag.plan.bars import holds_all
 from postedbag.plan.covered import covered_of
 
 
@@ -14,10 +13,7 @@ def is_bar(program, value):
     check_program(program)
     if not are_standings(program, value) or not ascends(value):
         return False
-    roofs = roofs_of(program, value)
-    if not all([roofs[start].covers(program.begin) for start in program.starts]):
-        return False
-    return holds_all(program, value, roofs)
+    return holds_all(program, value)
 
 
 class Tops:
@@ -83,44 +79,3 @@ def modes_of(rows):
 def is_below(mode, bag, rows):
     """Whether a mode and a wide bag are within one of some standings."""
     return any([other == mode and fits(bag, wide) for other, wide in rows])
-
-
-def roofs_of(program, rows):
-    """For each mode of a program the roof of the standings with this mode."""
-    return [roof_of([bag for other, bag in rows if other == mode]) for mode in range(program.modes)]
-
-
-def holds_all(program, rows, roofs):
-    """Whether each take from each of some standings leads below their roofs."""
-    table = table_of(program)
-    beyond = False
-    for way in taken_ways(program, rows):
-        try:
-            table.gains(way)
-        except TooMany:
-            beyond = True
-            continue
-        at = program.names.index(way[0])
-        for mode, bag in rows:
-            if mode == way[2] and bag[at] != 0 and not leads_below(table, way, at, bag, roofs[way[3]]):
-                return False
-    if beyond:
-        raise TooMany(MOST_GAINS)
-    return True
-
-
-def taken_ways(program, rows):
-    """The ways of the tasks that can be taken from some of the standings."""
-    return [
-        (name, 0, mode, end)
-        for at, name in enumerate(program.names)
-        for mode in range(program.modes)
-        if any([other == mode and bag[at] != 0 for other, bag in rows])
-        for end in range(program.modes)
-    ]
-
-
-def leads_below(table, way, at, bag, roof):
-    """Whether each take of a task, which has an index, by a way out of a bag leads below a roof."""
-    rest = changed(bag, at, -1)
-    return all([roof.covers(summed(rest, gain)) for gain in table.gains_over(way, bag)])
