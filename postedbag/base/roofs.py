@@ -107,10 +107,6 @@ class Roof:
         """The list of the bags that are held, in the order in which they came."""
         return [bag for block in self._blocks for at, bag in enumerate(block.bags) if (block.bits >> at) & 1]
 
-    def holds(self, index):
-        """Whether the bag that came at an index is held."""
-        return (self._blocks[index // BLOCK].bits >> (index % BLOCK)) & 1 == 1
-
     def covers(self, bag):
         """Whether a wide bag is within one that is held."""
         for block in reversed(list(self._blocks)):
@@ -118,15 +114,8 @@ class Roof:
                 return True
         return False
 
-    def below(self, bag):
-        """A number with the bits, by their indices, of all bags that came, held or not, and are within a wide bag."""
-        bits = 0
-        for at, block in enumerate(self._blocks):
-            bits |= block.below(bag) << (at * BLOCK)
-        return bits
-
     def put(self, bag):
-        """Hold a wide bag, no longer those within it, and tell its index; it is within none that is held."""
+        """Hold a wide bag, which is within none that is held, and no longer those within it."""
         for block in self._blocks:
             if block.bits:
                 self._many -= block.drop(block.below(bag))
@@ -134,7 +123,6 @@ class Roof:
             self._blocks.append(Block(len(bag)))
         self._blocks[-1].put(bag)
         self._many += 1
-        return (len(self._blocks) - 1) * BLOCK + len(self._blocks[-1].bags) - 1
 
 
 def greatest_of(bags, most):
